@@ -1,0 +1,1 @@
+"""Concurrent writers, one shared page, and lost updates."""

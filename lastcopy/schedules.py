@@ -1,0 +1,332 @@
+"""Schedules and save logs (points 13 to 18 of the document)."""
+
+from lastcopy.arguments import (
+    checked_line,
+    checked_line_counts,
+    continues,
+    plain_integer,
+    plain_line,
+    plain_lines,
+    plain_text,
+    plain_writer,
+)
+from lastcopy.contents import with_run
+from lastcopy.errors import InvalidAction, InvalidSaveOrder
+
+
+class Save:
+    """One save or one append: the lines of a run, saved behind the content before."""
+
+    def __init__(self, index, run, before, is_overwrite):
+        self.index = index
+        self.run = run
+        self.before = before
+        self.is_overwrite = is_overwrite
+
+
+class Replay:
+    """What the actions so far have done.
+
+    No list of runs is changed after it is made, so the page, the copies and the saves share them.
+    """
+
+    def __init__(self, counts):
+        self.counts = counts
+        self.saved = {writer: 0 for writer in counts}
+        self.page = []
+        self.copies = {}
+        self.reads = {}
+        self.saves = []
+
+    def is_possible(self, action):
+        writer = action[1]
+        if action[0] == "save":
+            return writer in self.copies
+        if writer in self.copies:
+            return False
+        left = self.counts[writer] - self.saved[writer]
+        if action[0] == "read":
+            return left > 0
+        return action[2] <= left
+
+    def perform(self, index, action):
+        writer = action[1]
+        if action[0] == "read":
+            self.copies[writer] = self.page
+            self.reads[writer] = len(self.saves)
+        elif action[0] == "save":
+            before = self.copies.pop(writer)
+            self.put(index, writer, 1, before, self.reads[writer] < len(self.saves))
+        else:
+            self.put(index, writer, action[2], self.page, False)
+
+    def put(self, index, writer, count, before, is_overwrite):
+        number = self.saved[writer]
+        run = (writer, number + 1, number + count)
+        self.saved[writer] = number + count
+        self.page = with_run(before, run)
+        self.saves.append(Save(index, run, before, is_overwrite))
+
+    def save_of(self, line):
+        """The save of a line, or None if the line was not saved."""
+        for save in self.saves:
+            writer, first, last = save.run
+            if writer == line[0] and first <= line[1] <= last:
+                return save
+        return None
+
+
+def plain_action(line_counts, value):
+    """The action as a plain tuple, or None if the value, which may be any value, is none."""
+    if type(value) != tuple or len(value) not in (2, 3):
+        return None
+    name = plain_text(value[0])
+    writer = plain_writer(value[1])
+    if writer not in line_counts:
+        return None
+    if len(value) == 2:
+        return (name, writer) if name in ("read", "save") else None
+    count = plain_integer(value[2])
+    if name != "append" or count is None or count < 1:
+        return None
+    return (name, writer, count)
+
+
+def replay_schedule(line_counts, schedule):
+    counts = checked_line_counts(line_counts)
+    if type(schedule) != list:
+        raise InvalidAction(None)
+    replay = Replay(counts)
+    for index, item in enumerate(schedule):
+        action = plain_action(counts, item)
+        if action is None or not replay.is_possible(action):
+            raise InvalidAction(index)
+        replay.perform(index, action)
+    return replay
+
+
+def is_schedule(line_counts, value):
+    try:
+        replay_schedule(line_counts, value)
+    except InvalidAction:
+        return False
+    return True
+
+
+def state_after(line_counts, schedule):
+    replay = replay_schedule(line_counts, schedule)
+    copies = {writer: list(replay.copies[writer]) for writer in replay.copies}
+    return (replay.saved, list(replay.page), copies)
+
+
+def page_history(line_counts, schedule):
+    replay = replay_schedule(line_counts, schedule)
+    return [[]] + [with_run(save.before, save.run) for save in replay.saves]
+
+
+def last_line(runs):
+    """The last line of a content; None stands for the empty page."""
+    if not runs:
+        return None
+    return (runs[-1][0], runs[-1][2])
+
+
+def line_and_save(line_counts, schedule, line):
+    replay = replay_schedule(line_counts, schedule)
+    wanted = checked_line(replay.counts, line)
+    return (wanted, replay.save_of(wanted))
+
+
+def find_save(line_counts, schedule, line):
+    (writer, number), save = line_and_save(line_counts, schedule, line)
+    if save is None:
+        return None
+    if number > save.run[1]:
+        return (save.index, (writer, number - 1))
+    return (save.index, last_line(save.before))
+
+
+def content_at_save(line_counts, schedule, line):
+    (writer, number), save = line_and_save(line_counts, schedule, line)
+    if save is None:
+        return None
+    return with_run(save.before, (writer, save.run[1], number))
+
+
+def count_overwrites(line_counts, schedule):
+    replay = replay_schedule(line_counts, schedule)
+    return len([save for save in replay.saves if save.is_overwrite])
+
+
+def lines_of_page(runs):
+    """The line set of a page, on which the runs of each writer ascend."""
+    line_set = {}
+    for writer, first, last in runs:
+        intervals = line_set.setdefault(writer, [])
+        if intervals and first == intervals[-1][1] + 1:
+            intervals[-1] = (intervals[-1][0], last)
+        else:
+            intervals.append((first, last))
+    return line_set
+
+
+def intervals_between(intervals, highest):
+    """The intervals of the numbers from 1 to highest that are in none of the given ones."""
+    found = []
+    start = 1
+    for first, last in intervals:
+        if start < first:
+            found.append((start, first - 1))
+        start = last + 1
+    if start <= highest:
+        found.append((start, highest))
+    return found
+
+
+def surviving_and_lost(line_counts, schedule):
+    replay = replay_schedule(line_counts, schedule)
+    surviving = lines_of_page(replay.page)
+    lost = {}
+    for writer, number in replay.saved.items():
+        intervals = intervals_between(surviving.get(writer, []), number)
+        if intervals:
+            lost[writer] = intervals
+    return (surviving, lost)
+
+
+def entry_continues(entry, following):
+    return continues(entry, following) and following[3] == (entry[0], entry[2])
+
+
+def save_log(line_counts, schedule):
+    replay = replay_schedule(line_counts, schedule)
+    log = []
+    for save in replay.saves:
+        entry = save.run + (last_line(save.before),)
+        if log and entry_continues(log[-1], entry):
+            writer, first, last, base = log.pop()
+            entry = (writer, first, entry[2], base)
+        log.append(entry)
+    return log
+
+
+def plain_entry(line_counts, value):
+    """The log entry as a plain tuple, or None if the value, which may be any value, is none."""
+    if type(value) != tuple or len(value) != 4:
+        return None
+    run = plain_lines(line_counts, value[0], value[1], value[2])
+    base = plain_line(line_counts, value[3])
+    if run is None or (base is None and value[3] is not None):
+        return None
+    return run + (base,)
+
+
+def checked_log(line_counts, value):
+    counts = checked_line_counts(line_counts)
+    if type(value) != list:
+        raise InvalidSaveOrder("a save log is a list")
+    entries = []
+    for item in value:
+        entry = plain_entry(counts, item)
+        if entry is None:
+            raise InvalidSaveOrder("not an entry of a save log of these line counts")
+        if entries and entry_continues(entries[-1], entry):
+            raise InvalidSaveOrder("two neighbouring entries are one entry")
+        entries.append(entry)
+    return entries
+
+
+class SaveTimes:
+    """When lines are saved. The time of a save or a read is the number of lines saved before it."""
+
+    def __init__(self):
+        self.total = 0
+        self.pieces = []
+        self.latest = {}
+
+    def add_lines(self, writer, first, last):
+        self.pieces.append((writer, first, last, self.total))
+        self.total += last - first + 1
+        self.latest[writer] = last
+
+    def save_time(self, line):
+        for writer, first, last, start in self.pieces:
+            if writer == line[0] and first <= line[1] <= last:
+                return start + line[1] - first
+        return None
+
+    def read_time(self, writer, base):
+        """The time of a read that gives the writer this base, or None if the base is not allowed."""
+        latest = self.latest.get(writer, 0)
+        if base is None:
+            return 0 if latest == 0 else None
+        time = self.save_time(base)
+        if time is None:
+            return None
+        if latest > 0 and time < self.save_time((writer, latest)):
+            return None
+        return time + 1
+
+
+def read_times(entries):
+    """The time of each entry's first read, up to the first impossible entry."""
+    found = []
+    times = SaveTimes()
+    for writer, first, last, base in entries:
+        time = times.read_time(writer, base)
+        if time is None or first != times.latest.get(writer, 0) + 1:
+            return found
+        found.append(time)
+        times.add_lines(writer, first, last)
+    return found
+
+
+def first_invalid_save(line_counts, log):
+    entries = checked_log(line_counts, log)
+    possible = len(read_times(entries))
+    if possible == len(entries):
+        return None
+    return possible
+
+
+def early_readers(entries, times):
+    """The writers that hold a copy while others save, by the time of the read."""
+    readers = {}
+    start = 0
+    for entry, time in zip(entries, times):
+        if time < start:
+            readers.setdefault(time, []).append(entry[0])
+        start += entry[2] - entry[1] + 1
+    return readers
+
+
+def stops_of_entry(start, end, is_early, readers):
+    """The times, up to the end, at which the saves of an entry must stop for other actions."""
+    stops = [time for time in sorted(readers) if start < time < end] + [end]
+    # A copy that was read early takes one line; the others follow by an append.
+    if is_early and stops[0] > start + 1:
+        return [start + 1] + stops
+    return stops
+
+
+def schedule_for_log(line_counts, log):
+    entries = checked_log(line_counts, log)
+    times = read_times(entries)
+    if len(times) < len(entries):
+        return None
+    readers = early_readers(entries, times)
+    schedule = [("read", reader) for reader in readers.get(0, [])]
+    start = 0
+    for entry, time in zip(entries, times):
+        writer = entry[0]
+        is_early = time < start
+        done = start
+        for stop in stops_of_entry(start, start + entry[2] - entry[1] + 1, is_early, readers):
+            if is_early and done == start:
+                schedule.append(("save", writer))
+            else:
+                schedule.append(("append", writer, stop - done))
+            schedule.extend([("read", reader) for reader in readers.get(stop, [])])
+            done = stop
+        start = done
+    return schedule

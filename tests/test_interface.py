@@ -1,0 +1,57 @@
+"""The interface: names and arguments, each defined in the file that lists it."""
+
+import inspect
+import unittest
+
+from lastcopy import contents, errors, final, schedules
+
+SIGNATURES = {
+    contents: [
+        "is_line_counts(value)", "is_line(line_counts, value)", "is_content(line_counts, value)",
+        "is_line_set(line_counts, value)", "count_lines(content)", "line_at(content, index)",
+        "index_of(content, line)", "is_prefix(content, other)", "append_line(content, line)",
+        "split_at(content, count)", "reverse_content(line_counts, content)",
+    ],
+    schedules: [
+        "is_schedule(line_counts, value)", "state_after(line_counts, schedule)",
+        "page_history(line_counts, schedule)", "find_save(line_counts, schedule, line)",
+        "content_at_save(line_counts, schedule, line)", "count_overwrites(line_counts, schedule)",
+        "surviving_and_lost(line_counts, schedule)", "save_log(line_counts, schedule)",
+        "first_invalid_save(line_counts, log)", "schedule_for_log(line_counts, log)",
+    ],
+    final: [
+        "can_appear(line_counts, content)", "can_be_final(line_counts, content)",
+        "final_obstruction(line_counts, content)", "schedule_to_final(line_counts, content)",
+        "schedule_to_appear(line_counts, content)", "next_lines(line_counts, content)",
+    ],
+}
+ERROR_NAMES = [
+    "LastCopyError", "InvalidAction", "UnknownWriter", "TooManyResults", "InvalidFormat",
+    "InvalidLineCounts", "InvalidLine", "InvalidContent", "InvalidLineSet", "InvalidAtomicSet",
+    "InvalidState", "InvalidSaveOrder", "InvalidObservations", "InvalidInteger",
+    "InvalidNumbers", "EmptyHistory", "UnknownName", "DuplicateName", "InvalidCommand",
+]
+
+
+class InterfaceTest(unittest.TestCase):
+    def test_signatures(self):
+        for module, signatures in SIGNATURES.items():
+            for signature in signatures:
+                with self.subTest(signature):
+                    function = getattr(module, signature.split("(")[0])
+                    self.assertEqual(function.__name__ + str(inspect.signature(function)),
+                                     signature)
+
+    def test_each_function_is_defined_in_its_file(self):
+        for module, signatures in SIGNATURES.items():
+            for signature in signatures:
+                function = getattr(module, signature.split("(")[0])
+                self.assertEqual(function.__module__, module.__name__)
+
+    def test_each_error_is_defined_in_its_file(self):
+        for name in ERROR_NAMES:
+            self.assertEqual(getattr(errors, name).__module__, "lastcopy.errors")
+
+
+if __name__ == "__main__":
+    unittest.main()
