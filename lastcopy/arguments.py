@@ -5,7 +5,13 @@ it compares or hashes it, because a part may refuse both. What it returns is new
 nothing of a caller's lists and dicts is kept.
 """
 
-from lastcopy.errors import InvalidContent, InvalidInteger, InvalidLine, InvalidLineCounts
+from lastcopy.errors import (
+    InvalidContent,
+    InvalidInteger,
+    InvalidLine,
+    InvalidLineCounts,
+    InvalidLineSet,
+)
 
 LARGEST_NUMBER = 10 ** 30
 MOST_WRITERS = 12
@@ -148,6 +154,13 @@ def checked_content(line_counts, value):
     if runs is None:
         raise InvalidContent("not a content, or not one of these line counts")
     return runs
+
+
+def checked_line_set(line_counts, value):
+    line_set = plain_line_set(line_counts, value)
+    if line_set is None:
+        raise InvalidLineSet("not a line set of these line counts")
+    return line_set
 
 
 def checked_integer(value, lowest, highest):

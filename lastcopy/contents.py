@@ -59,6 +59,38 @@ def cut(runs, count):
     return (front, back)
 
 
+def joined_intervals(intervals):
+    """The intervals, in any order, with those that overlap or touch made one."""
+    joined = []
+    for first, last in sorted(intervals):
+        if joined and first <= joined[-1][1] + 1:
+            joined[-1] = (joined[-1][0], max(last, joined[-1][1]))
+        else:
+            joined.append((first, last))
+    return joined
+
+
+def lines_of_runs(runs):
+    """The line set of all lines of the runs."""
+    found = {}
+    for writer, first, last in runs:
+        found.setdefault(writer, []).append((first, last))
+    return {writer: joined_intervals(found[writer]) for writer in sorted(found)}
+
+
+def intervals_between(intervals, highest):
+    """The intervals of the numbers from 1 to highest that are in none of the given ones."""
+    found = []
+    start = 1
+    for first, last in intervals:
+        if start < first:
+            found.append((start, first - 1))
+        start = last + 1
+    if start <= highest:
+        found.append((start, highest))
+    return found
+
+
 def count_lines(content):
     runs = checked_content(None, content)
     return number_of_lines(runs)

@@ -10,7 +10,7 @@ from lastcopy.arguments import (
     plain_text,
     plain_writer,
 )
-from lastcopy.contents import with_run
+from lastcopy.contents import intervals_between, lines_of_runs, with_run
 from lastcopy.errors import InvalidAction, InvalidSaveOrder
 
 
@@ -158,34 +158,9 @@ def count_overwrites(line_counts, schedule):
     return len([save for save in replay.saves if save.is_overwrite])
 
 
-def lines_of_page(runs):
-    """The line set of a page, on which the runs of each writer ascend."""
-    line_set = {}
-    for writer, first, last in runs:
-        intervals = line_set.setdefault(writer, [])
-        if intervals and first == intervals[-1][1] + 1:
-            intervals[-1] = (intervals[-1][0], last)
-        else:
-            intervals.append((first, last))
-    return line_set
-
-
-def intervals_between(intervals, highest):
-    """The intervals of the numbers from 1 to highest that are in none of the given ones."""
-    found = []
-    start = 1
-    for first, last in intervals:
-        if start < first:
-            found.append((start, first - 1))
-        start = last + 1
-    if start <= highest:
-        found.append((start, highest))
-    return found
-
-
 def surviving_and_lost(line_counts, schedule):
     replay = replay_schedule(line_counts, schedule)
-    surviving = lines_of_page(replay.page)
+    surviving = lines_of_runs(replay.page)
     lost = {}
     for writer, number in replay.saved.items():
         intervals = intervals_between(surviving.get(writer, []), number)

@@ -1,11 +1,17 @@
 """Every function of these modules: the kinds of its arguments, wrong values, and good calls."""
 
-from lastcopy import contents, errors, final, schedules
-from tests.support import Prickly, expand, model_after, odd_values, random_content, random_schedule
+from lastcopy import (
+    check_final, check_overwrites, contents, errors, final, overwrites, schedules, survivors,
+)
+from tests.support import (
+    Prickly, expand, line_set_of, model_after, odd_values, random_content, random_final,
+    random_schedule,
+)
 
 MOST = 10 ** 30
 
-# A function's name, the module, and the kinds of its arguments. "any" takes every value.
+# The module, a function's name, and the kinds of its arguments. A kind that begins with "any" takes
+# every value; the rest of it says which values are of interest.
 FUNCTIONS = [
     (contents, "is_line_counts", ["any"]),
     (contents, "is_line", ["counts", "any"]),
@@ -34,7 +40,28 @@ FUNCTIONS = [
     (final, "schedule_to_final", ["counts", "content"]),
     (final, "schedule_to_appear", ["counts", "content"]),
     (final, "next_lines", ["counts", "content"]),
+    (check_final, "is_final_obstruction", ["counts", "content", "any obstruction"]),
+    (check_final, "is_schedule_to_final", ["counts", "any schedule", "content"]),
+    (overwrites, "gaps", ["counts", "content"]),
+    (overwrites, "min_overwrites", ["counts", "content"]),
+    (overwrites, "overwrite_runs", ["counts", "content"]),
+    (overwrites, "disjoint_gaps", ["counts", "content"]),
+    (overwrites, "schedule_with_min_overwrites", ["counts", "content"]),
+    (overwrites, "gaps_covered_by", ["counts", "content", "run index"]),
+    (check_overwrites, "covers_all_gaps", ["counts", "content", "any indices"]),
+    (check_overwrites, "are_disjoint_gaps", ["counts", "content", "any gaps"]),
+    (survivors, "lost_lines", ["counts", "line set"]),
+    (survivors, "gap_counts", ["counts", "line set"]),
+    (survivors, "can_survive", ["counts", "line set"]),
+    (survivors, "survival_obstruction", ["counts", "line set"]),
+    (survivors, "content_for", ["counts", "line set"]),
+    (survivors, "lines_in_content", ["free content"]),
 ]
+
+
+def takes_any_value(kind):
+    return kind.startswith("any")
+
 
 ERRORS = {
     "counts": errors.InvalidLineCounts,
@@ -46,33 +73,56 @@ ERRORS = {
     "part": errors.InvalidInteger,
     "schedule": errors.InvalidAction,
     "log": errors.InvalidSaveOrder,
+    "run index": errors.InvalidInteger,
+    "line set": errors.InvalidLineSet,
 }
 
 
 def good_value(kind):
-    """A new valid argument; the contents have six lines."""
+    """A new valid argument; the content has three runs of six lines, and can be final."""
+    schedule = [("append", "a", 1), ("read", "b"), ("append", "a", 2), ("save", "b")]
+    content = [("a", 1, 1), ("b", 1, 3), ("a", 3, 4)]
     return {
         "any": [],
+        "any schedule": schedule,
+        "any obstruction": ("decreasing", 1),
+        "any indices": [1],
+        "any gaps": [("a", 2, 2, 1, 1)],
         "counts": {"b": 3, "a": 4, "n": 0},
-        "content": [("a", 1, 1), ("b", 1, 3), ("a", 3, 4)],
-        "free content": [("a", 1, 1), ("b", 1, 3), ("a", 3, 4)],
+        "content": content,
+        "free content": content,
         "line": ("a", 2),
         "free line": ("a", 2),
         "index": 5,
         "part": 6,
-        "schedule": [("append", "a", 1), ("read", "b"), ("append", "a", 2), ("save", "b")],
+        "run index": 2,
+        "schedule": schedule,
         "log": [("a", 1, 3, None), ("b", 1, 1, ("a", 1)), ("a", 4, 4, ("b", 1))],
+        "line set": {"b": [(1, 1), (3, 3)], "n": [], "a": [(2, 3)]},
     }[kind]
 
 
-def random_arguments(chance, kinds):
-    """New valid arguments of these kinds."""
+def random_line_set(chance, counts):
+    lines = [(writer, number) for writer in counts for number in range(1, counts[writer] + 1)]
+    return line_set_of(chance.sample(lines, chance.randint(0, len(lines))))
+
+
+def random_values(chance):
+    """New valid arguments for the same line counts, by their kinds."""
     counts = {"b": 3, "a": 4, "c": 2, "n": 0}
     content = random_content(chance, counts, 4) or [("a", 1, 2)]
+    if chance.random() < 0.7:
+        content = random_final(chance, counts, 5)
+    runs = len(content)
     total = len(expand(content))
     schedule = random_schedule(chance, counts, chance.randint(0, 8))
-    values = {
+    found = overwrites.gaps(counts, content) or [("b", 1, 1, 0, 0)]
+    return {
         "any": list(content),
+        "any schedule": list(schedule),
+        "any obstruction": chance.choice([("start",), ("end",), ("split", 1), ("decreasing", 2)]),
+        "any indices": sorted(chance.sample(range(runs), chance.randint(0, runs))),
+        "any gaps": sorted(chance.sample(found, chance.randint(0, len(found)))),
         "counts": counts,
         "content": list(content),
         "free content": content,
@@ -80,9 +130,15 @@ def random_arguments(chance, kinds):
         "free line": ("a", chance.randint(1, 9)),
         "index": chance.randint(0, total - 1),
         "part": chance.randint(0, total),
+        "run index": chance.randint(0, runs - 1),
         "schedule": schedule,
         "log": model_after(counts, schedule).log(),
+        "line set": random_line_set(chance, counts),
     }
+
+
+def random_arguments(chance, kinds):
+    values = random_values(chance)
     return [list(values[kind]) if kind == "free content" else values[kind] for kind in kinds]
 
 
@@ -106,35 +162,65 @@ def bad_contents():
     ]
 
 
-def bad_values(kind):
-    """New wrong arguments of a kind, beside the good values of the other arguments."""
-    if kind == "counts":
-        return odd_values() + [
-            {}, [], (), "a", {"a": -1}, {"a": MOST + 1}, {"a": True}, {"a": False}, {"a": 1.0},
-            {"a": "1"}, {"a": None}, {"a": [1]}, {"": 1}, {"abcdefghi": 1}, {"A": 1}, {"a1": 1},
-            {1: 1}, {None: 1}, {("a",): 1}, {b"a": 1}, [("a", 1)], {"a"}, {"a": 1, "b": -1},
-            {letter: 1 for letter in "abcdefghijklm"}, {"a": Prickly()}, {"\u00e4": 1},
-        ]
-    if kind in ("line", "free line"):
-        unknown = [("c", 1), ("a", 5), ("n", 0), ("n", 1)] if kind == "line" else []
-        return odd_values() + bad_lines() + unknown + [[], {}]
-    if kind in ("content", "free content"):
-        unknown = [[("c", 1, 1)], [("a", 1, 5)], [("n", 1, 1)]] if kind == "content" else []
-        return odd_values() + bad_contents() + unknown
-    if kind == "index":
-        return odd_values() + [6, 7, -6, 10 ** 40, -10 ** 40, "0", [0], (0,), 0.0, [], ()]
-    if kind == "part":
-        return odd_values() + [7, 8, -6, 10 ** 40, -10 ** 40, "0", [0], (0,), 0.0, [], ()]
-    if kind == "schedule":
-        return odd_values() + [
-            (), {}, "read a", (("append", "a", 1),), [("append", "a", 0)], [["read", "a"]],
-            [("append", "c", 1)], [("append", "a", 5)], [("append", "a", True)], [("save", "a")],
-            [("read", "a"), ("read", "a")], [("read", "n")], [("leave", "a")], [(Prickly(), "a")],
-        ]
-    return odd_values() + [
+def bad_counts():
+    return [
+        {}, [], (), "a", {"a": -1}, {"a": MOST + 1}, {"a": True}, {"a": False}, {"a": 1.0},
+        {"a": "1"}, {"a": None}, {"a": [1]}, {"": 1}, {"abcdefghi": 1}, {"A": 1}, {"a1": 1},
+        {1: 1}, {None: 1}, {("a",): 1}, {b"a": 1}, [("a", 1)], {"a"}, {"a": 1, "b": -1},
+        {letter: 1 for letter in "abcdefghijklm"}, {"a": Prickly()}, {"\u00e4": 1},
+    ]
+
+
+def bad_integers():
+    return [-1, -2, -6, 10 ** 40, -10 ** 40, "0", [0], (0,), 0.0, [], (), {0: 0}]
+
+
+def bad_schedules():
+    return [
+        (), {}, "read a", (("append", "a", 1),), [("append", "a", 0)], [["read", "a"]],
+        [("append", "c", 1)], [("append", "a", 5)], [("append", "a", True)], [("save", "a")],
+        [("read", "a"), ("read", "a")], [("read", "n")], [("leave", "a")], [(Prickly(), "a")],
+    ]
+
+
+def bad_logs():
+    return [
         (), {}, "log", (("a", 1, 1, None),), [["a", 1, 1, None]], [("a", 1, 1)],
         [("a", 2, 1, None)], [("a", 0, 1, None)], [("a", 1, 5, None)], [("c", 1, 1, None)],
         [("a", True, 1, None)], [("a", 1, 1, ("c", 1))], [("a", 1, 1, ("a", 5))],
         [("a", 1, 1, ["b", 1])], [("a", 1, 1, ("b", True))], [("a", 1, 1, Prickly())],
         [("a", 1, 1, None), ("a", 2, 2, ("a", 1))],
     ]
+
+
+def bad_line_sets():
+    return [
+        [], (), "a", [("a", 1, 1)], [("a", [(1, 1)])], {"a"}, {"c": []}, {"c": [(1, 1)]},
+        {"A": []}, {"": []}, {1: []}, {None: []}, {b"a": []}, {("a", 1): []},
+        {"a": [(1, 5)]}, {"a": [(5, 5)]}, {"a": [(0, 1)]}, {"a": [(-1, 1)]}, {"a": [(2, 1)]},
+        {"a": [(1, 1), (2, 3)]}, {"a": [(1, 2), (2, 3)]}, {"a": [(3, 3), (1, 1)]},
+        {"a": [(1, 1), (1, 1)]}, {"a": ((1, 1),)}, {"a": ()}, {"a": [[1, 1]]}, {"a": [(1,)]},
+        {"a": [(1, 1, 1)]}, {"a": [1, 1]}, {"a": (1, 1)}, {"a": [(True, 1)]}, {"a": [(1, True)]},
+        {"a": [(1.0, 1)]}, {"a": [(1, "1")]}, {"a": [None]}, {"a": None}, {"a": {}}, {"a": "1"},
+        {"a": {(1, 1)}}, {"a": {(1, 1): 1}}, {"n": [(0, 0)]}, {"n": [(1, 1)]}, {"n": None},
+        {"a": [(1, 1)], "b": [(4, 4)]}, {"a": [(1, 1)], "z": []}, {"a": [Prickly()]},
+        {"a": [(Prickly(), 1)]}, {"a": [(1, Prickly())]}, {"a": [("a", 1, 1)]},
+        {"a": [(1, MOST + 1)]}, {"a": [(1, 1), [3, 3]]}, {"a": True}, {"a": 1},
+    ]
+
+
+def bad_values(kind):
+    """New wrong arguments of a kind, beside the good values of the other arguments."""
+    return odd_values() + {
+        "counts": bad_counts,
+        "line": lambda: bad_lines() + [[], {}, ("c", 1), ("a", 5), ("n", 0), ("n", 1)],
+        "free line": lambda: bad_lines() + [[], {}],
+        "content": lambda: bad_contents() + [[("c", 1, 1)], [("a", 1, 5)], [("n", 1, 1)]],
+        "free content": bad_contents,
+        "index": lambda: bad_integers() + [6, 7],
+        "part": lambda: bad_integers() + [7, 8],
+        "run index": lambda: bad_integers() + [3, 4],
+        "schedule": bad_schedules,
+        "log": bad_logs,
+        "line set": bad_line_sets,
+    }[kind]()

@@ -3,6 +3,9 @@
 The models know nothing of the package: they expand every content to single lines.
 """
 
+import collections
+import itertools
+
 
 class Prickly:
     """A value that refuses to be hashed, compared, measured, tested or iterated over."""
@@ -80,7 +83,8 @@ class Model:
         self.fresh = {}
         self.history = [[]]
         self.saves = []
-        self.overwrites = 0
+        self.overwriting = []
+        self.most_copies = 0
 
     def left(self, writer):
         return self.line_counts[writer] - self.saved[writer]
@@ -100,10 +104,12 @@ class Model:
             assert writer not in self.copies and self.left(writer) > 0
             self.copies[writer] = self.page
             self.fresh[writer] = True
+            self.most_copies = max(self.most_copies, len(self.copies))
         elif action[0] == "save":
             assert writer in self.copies
             copy = self.copies.pop(writer)
-            self.overwrites += not self.fresh.pop(writer)
+            if not self.fresh.pop(writer):
+                self.overwriting.append((writer, self.saved[writer] + 1))
             self.save_one(index, writer, copy)
             self.history.append(self.page)
         else:
@@ -172,6 +178,34 @@ def random_content(chance, line_counts, most_runs):
     return compress(lines)
 
 
+def random_appearing(chance, counts, most_runs):
+    """A content that can appear, made run by run."""
+    runs = []
+    latest = dict.fromkeys(counts, 0)
+    for _ in range(chance.randint(0, most_runs)):
+        writers = [writer for writer in counts if latest[writer] < counts[writer]
+                   and not (runs and runs[-1][0] == writer)]
+        if not writers:
+            break
+        writer = chance.choice(writers)
+        first = 1 if not runs else chance.randint(latest[writer] + 1, counts[writer])
+        latest[writer] = chance.randint(first, counts[writer])
+        runs.append((writer, first, latest[writer]))
+    return runs
+
+
+def random_final(chance, counts, most_runs):
+    """A content that can be final."""
+    runs = random_appearing(chance, counts, most_runs)
+    if runs:
+        writer, first, _ = runs[-1]
+        runs[-1] = (writer, first, counts[writer])
+    elif any(counts.values()):
+        writer = chance.choice([writer for writer in counts if counts[writer] > 0])
+        runs = [(writer, 1, counts[writer])]
+    return runs
+
+
 def all_contents(line_counts, longest):
     """All contents of at most so many lines, each as a tuple of lines."""
     lines = [(writer, number) for writer in line_counts
@@ -210,6 +244,42 @@ def search_contents(line_counts):
     finals = {page for saved, page, copies in seen
               if saved == full and copies == (None,) * len(line_counts)}
     return pages, finals
+
+
+def search_overwrites(line_counts):
+    """From each content at the end, a tuple of lines, to the least number of overwrites."""
+    writers = sorted(line_counts)
+    start = (((0,) * len(writers), (), (None,) * len(writers)), (False,) * len(writers))
+    least = {start: 0}
+    waiting = collections.deque([start])
+    while waiting:
+        state, stale = waiting.popleft()
+        cost = least[state, stale]
+        for after in steps(state, line_counts):
+            saver = [at for at in range(len(writers)) if after[0][at] != state[0][at]]
+            if saver:
+                # Every other copy is stale now; the saver holds none.
+                marks = tuple(copy is not None for copy in after[2])
+                price = cost + stale[saver[0]]
+            else:
+                marks = stale
+                price = cost
+            if price < least.get((after, marks), price + 1):
+                least[after, marks] = price
+                waiting.append((after, marks))
+    found = {}
+    for ((saved, page, copies), _), cost in least.items():
+        if list(saved) == [line_counts[writer] for writer in writers]:
+            found[page] = min(cost, found.get(page, cost))
+    return found
+
+
+def all_line_sets(line_counts):
+    """All sets of lines, each as a tuple of lines."""
+    lines = [(writer, number) for writer in sorted(line_counts)
+             for number in range(1, line_counts[writer] + 1)]
+    return [chosen for size in range(len(lines) + 1)
+            for chosen in itertools.combinations(lines, size)]
 
 
 def search_logs(line_counts):

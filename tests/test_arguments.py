@@ -7,10 +7,10 @@ import random
 import unittest
 
 from lastcopy.errors import InvalidAction, InvalidInteger, LastCopyError
-from tests.calls import ERRORS, FUNCTIONS, bad_values, good_value, random_arguments
+from tests.calls import (
+    ERRORS, FUNCTIONS, bad_values, good_value, random_arguments, takes_any_value,
+)
 from tests.support import odd_values
-
-BOOLEANS = ["is_line_counts", "is_line", "is_content", "is_line_set", "is_schedule"]
 
 
 class WrongArgumentTest(unittest.TestCase):
@@ -23,7 +23,7 @@ class WrongArgumentTest(unittest.TestCase):
     def test_each_wrong_argument(self):
         for module, name, kinds in FUNCTIONS:
             for at, kind in enumerate(kinds):
-                if kind == "any":
+                if takes_any_value(kind):
                     continue
                 for number, bad in enumerate(bad_values(kind)):
                     arguments = [good_value(kind) for kind in kinds]
@@ -34,9 +34,9 @@ class WrongArgumentTest(unittest.TestCase):
     def test_the_first_of_several_wrong_arguments(self):
         for module, name, kinds in FUNCTIONS:
             for at, kind in enumerate(kinds):
-                if kind == "any":
+                if takes_any_value(kind):
                     continue
-                later = [bad_values(kind)[:3] if kind != "any" else odd_values()
+                later = [odd_values() if takes_any_value(kind) else bad_values(kind)[:3]
                          for kind in kinds[at + 1:]]
                 for number, bad in enumerate(bad_values(kind)):
                     arguments = [good_value(kind) for kind in kinds[:at]] + [bad]
@@ -44,9 +44,22 @@ class WrongArgumentTest(unittest.TestCase):
                     with self.subTest(name, argument=at, value=number):
                         self.check(getattr(module, name), arguments, ERRORS[kind])
 
+    def test_any_value_beside_a_wrong_argument(self):
+        for module, name, kinds in FUNCTIONS:
+            for at, kind in enumerate(kinds):
+                if takes_any_value(kind):
+                    continue
+                for number, value in enumerate(odd_values()):
+                    arguments = [value if takes_any_value(kind) else good_value(kind)
+                                 for kind in kinds]
+                    bad = bad_values(kind)
+                    arguments[at] = bad[number % len(bad)]
+                    with self.subTest(name, argument=at, value=number):
+                        self.check(getattr(module, name), arguments, ERRORS[kind])
+
     def test_all_wrong_in_pairs(self):
         for module, name, kinds in FUNCTIONS:
-            if len(kinds) < 2 or kinds[0] == "any":
+            if len(kinds) < 2 or takes_any_value(kinds[0]):
                 continue
             for bad in bad_values(kinds[0]):
                 for number, other in enumerate(odd_values()):
@@ -63,14 +76,14 @@ class WrongArgumentTest(unittest.TestCase):
                                        [good_value("counts"), schedule, bad], InvalidAction)
                     self.assertEqual(error.position, 4)
 
-    def test_any_value_gives_true_or_false(self):
+    def test_any_value_gives_false(self):
         for module, name, kinds in FUNCTIONS:
-            if name not in BOOLEANS:
-                continue
             for number, value in enumerate(odd_values()):
-                arguments = [good_value("counts") for _ in kinds[1:]] + [value]
-                with self.subTest(name, value=number):
-                    self.assertIs(getattr(module, name)(*arguments), False)
+                arguments = [value if takes_any_value(kind) else good_value(kind)
+                             for kind in kinds]
+                if any(map(takes_any_value, kinds)):
+                    with self.subTest(name, value=number):
+                        self.assertIs(getattr(module, name)(*arguments), False)
 
     def test_index_depends_on_the_content(self):
         line_at = next(getattr(m, name) for m, name, _ in FUNCTIONS if name == "line_at")

@@ -8,37 +8,11 @@ from lastcopy.final import (
     can_appear, can_be_final, final_obstruction, next_lines, schedule_to_appear, schedule_to_final,
 )
 from lastcopy.schedules import is_schedule, state_after
-from tests.support import compress, expand, model_after, random_content
+from tests.support import (
+    compress, expand, model_after, random_appearing, random_content, random_final,
+)
 
 MOST = 10 ** 30
-
-
-def random_appearing(chance, counts, most_runs):
-    """A content that can appear, made run by run."""
-    runs = []
-    latest = dict.fromkeys(counts, 0)
-    for _ in range(chance.randint(0, most_runs)):
-        writers = [writer for writer in counts if latest[writer] < counts[writer]
-                   and not (runs and runs[-1][0] == writer)]
-        if not writers:
-            break
-        writer = chance.choice(writers)
-        first = 1 if not runs else chance.randint(latest[writer] + 1, counts[writer])
-        latest[writer] = chance.randint(first, counts[writer])
-        runs.append((writer, first, latest[writer]))
-    return runs
-
-
-def random_final(chance, counts, most_runs):
-    """A content that can be final."""
-    runs = random_appearing(chance, counts, most_runs)
-    if runs:
-        writer, first, _ = runs[-1]
-        runs[-1] = (writer, first, counts[writer])
-    elif any(counts.values()):
-        writer = chance.choice([writer for writer in counts if counts[writer] > 0])
-        runs = [(writer, 1, counts[writer])]
-    return runs
 
 
 class FinalTest(unittest.TestCase):

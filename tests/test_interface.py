@@ -3,7 +3,9 @@
 import inspect
 import unittest
 
-from lastcopy import contents, errors, final, schedules
+from lastcopy import (
+    check_final, check_overwrites, contents, errors, final, overwrites, schedules, survivors,
+)
 
 SIGNATURES = {
     contents: [
@@ -23,6 +25,25 @@ SIGNATURES = {
         "can_appear(line_counts, content)", "can_be_final(line_counts, content)",
         "final_obstruction(line_counts, content)", "schedule_to_final(line_counts, content)",
         "schedule_to_appear(line_counts, content)", "next_lines(line_counts, content)",
+    ],
+    check_final: [
+        "is_final_obstruction(line_counts, content, value)",
+        "is_schedule_to_final(line_counts, value, content)",
+    ],
+    overwrites: [
+        "gaps(line_counts, content)", "min_overwrites(line_counts, content)",
+        "overwrite_runs(line_counts, content)", "disjoint_gaps(line_counts, content)",
+        "schedule_with_min_overwrites(line_counts, content)",
+        "gaps_covered_by(line_counts, content, index)",
+    ],
+    check_overwrites: [
+        "covers_all_gaps(line_counts, content, value)",
+        "are_disjoint_gaps(line_counts, content, value)",
+    ],
+    survivors: [
+        "lost_lines(line_counts, line_set)", "gap_counts(line_counts, line_set)",
+        "can_survive(line_counts, line_set)", "survival_obstruction(line_counts, line_set)",
+        "content_for(line_counts, line_set)", "lines_in_content(content)",
     ],
 }
 ERROR_NAMES = [

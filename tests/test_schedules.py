@@ -298,7 +298,7 @@ class ModelTest(unittest.TestCase):
         copies = {writer: compress(copy) for writer, copy in model.copies.items()}
         self.assertEqual(state_after(counts, schedule), (model.saved, compress(model.page), copies))
         self.assertEqual(page_history(counts, schedule), [compress(page) for page in model.history])
-        self.assertEqual(count_overwrites(counts, schedule), model.overwrites)
+        self.assertEqual(count_overwrites(counts, schedule), len(model.overwriting))
         self.assertEqual(save_log(counts, schedule), model.log())
         saved = [line for line, _, _, _ in model.saves]
         lost = [line for line in saved if line not in model.page]
