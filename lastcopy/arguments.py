@@ -11,6 +11,7 @@ from lastcopy.errors import (
     InvalidLine,
     InvalidLineCounts,
     InvalidLineSet,
+    InvalidNumbers,
 )
 
 LARGEST_NUMBER = 10 ** 30
@@ -135,6 +136,20 @@ def plain_line_set(line_counts, value):
     return line_set
 
 
+def plain_table(line_counts, value):
+    """A number for every writer, 0 for those that the value does not have, or None."""
+    if not isinstance(value, dict):
+        return None
+    table = {writer: 0 for writer in line_counts}
+    for key, item in value.items():
+        writer = plain_writer(key)
+        number = plain_integer(item)
+        if writer not in table or number is None or not 0 <= number <= LARGEST_NUMBER:
+            return None
+        table[writer] = number
+    return table
+
+
 def checked_line_counts(value):
     counts = plain_line_counts(value)
     if counts is None:
@@ -161,6 +176,13 @@ def checked_line_set(line_counts, value):
     if line_set is None:
         raise InvalidLineSet("not a line set of these line counts")
     return line_set
+
+
+def checked_table(line_counts, value):
+    table = plain_table(line_counts, value)
+    if table is None:
+        raise InvalidNumbers("not a dict from writers of these line counts to numbers")
+    return table
 
 
 def checked_integer(value, lowest, highest):

@@ -1,7 +1,8 @@
 """Every function of these modules: the kinds of its arguments, wrong values, and good calls."""
 
 from lastcopy import (
-    check_final, check_overwrites, contents, errors, final, overwrites, schedules, survivors,
+    atomic, check_final, check_overwrites, check_survivors, contents, counting, errors, final,
+    overwrites, save_orders, schedules, survivors,
 )
 from tests.support import (
     Prickly, expand, line_set_of, model_after, odd_values, random_content, random_final,
@@ -56,6 +57,30 @@ FUNCTIONS = [
     (survivors, "survival_obstruction", ["counts", "line set"]),
     (survivors, "content_for", ["counts", "line set"]),
     (survivors, "lines_in_content", ["free content"]),
+    (check_survivors, "is_survival_obstruction", ["counts", "line set", "any obstruction of a set"]),
+    (counting, "can_survive_counts", ["counts", "table"]),
+    (counting, "min_surviving_lines", ["counts"]),
+    (counting, "count_survivor_sets", ["counts", "size"]),
+    (counting, "count_contents_by_runs", ["counts", "table"]),
+    (counting, "count_final_contents", ["counts"]),
+    (atomic, "is_atomic_schedule", ["counts", "atomic set", "any schedule"]),
+    (atomic, "can_be_final_atomic", ["counts", "atomic set", "content"]),
+    (atomic, "atomic_final_obstruction", ["counts", "atomic set", "content"]),
+    (atomic, "is_atomic_final_obstruction",
+     ["counts", "atomic set", "content", "any atomic obstruction"]),
+    (atomic, "schedule_to_final_atomic", ["counts", "atomic set", "content"]),
+    (atomic, "min_non_atomic_lines", ["counts", "content"]),
+    (atomic, "required_non_atomic_lines", ["counts", "atomic set", "content"]),
+    (atomic, "count_atomic_sets", ["counts", "content"]),
+    (save_orders, "line_counts_of", ["save order"]),
+    (save_orders, "is_outcome", ["save order", "any outcome"]),
+    (save_orders, "count_outcomes", ["save order"]),
+    (save_orders, "nth_outcome", ["save order", "outcome index"]),
+    (save_orders, "outcome_index", ["save order", "outcome"]),
+    (save_orders, "shortest_outcome", ["save order"]),
+    (save_orders, "count_outcomes_with", ["save order", "saved line"]),
+    (save_orders, "count_outcomes_with_both", ["save order", "saved line", "saved line"]),
+    (save_orders, "lines_in_all_outcomes", ["save order"]),
 ]
 
 
@@ -75,6 +100,13 @@ ERRORS = {
     "log": errors.InvalidSaveOrder,
     "run index": errors.InvalidInteger,
     "line set": errors.InvalidLineSet,
+    "table": errors.InvalidNumbers,
+    "size": errors.InvalidInteger,
+    "atomic set": errors.InvalidAtomicSet,
+    "save order": errors.InvalidSaveOrder,
+    "outcome index": errors.InvalidInteger,
+    "outcome": errors.InvalidContent,
+    "saved line": errors.InvalidLine,
 }
 
 
@@ -88,6 +120,9 @@ def good_value(kind):
         "any obstruction": ("decreasing", 1),
         "any indices": [1],
         "any gaps": [("a", 2, 2, 1, 1)],
+        "any obstruction of a set": ("no first",),
+        "any atomic obstruction": ("atomic", ("a", 2, 2, 1, 1)),
+        "any outcome": [("a", 1, 3)],
         "counts": {"b": 3, "a": 4, "n": 0},
         "content": content,
         "free content": content,
@@ -99,12 +134,28 @@ def good_value(kind):
         "schedule": schedule,
         "log": [("a", 1, 3, None), ("b", 1, 1, ("a", 1)), ("a", 4, 4, ("b", 1))],
         "line set": {"b": [(1, 1), (3, 3)], "n": [], "a": [(2, 3)]},
+        "table": {"b": 2, "a": 2},
+        "size": 4,
+        "atomic set": {"b": [(1, 1), (3, 3)], "n": [], "a": [(2, 3)]},
+        # Its outcomes are a1-3, b1 a3, a1 b1 a3 and a1-2 b1 a3.
+        "save order": [("a", 2), ("b", 1), ("a", 1)],
+        "outcome index": 3,
+        "outcome": [("a", 1, 2), ("b", 1, 1), ("a", 3, 3)],
+        "saved line": ("a", 3),
     }[kind]
 
 
 def random_line_set(chance, counts):
     lines = [(writer, number) for writer in counts for number in range(1, counts[writer] + 1)]
     return line_set_of(chance.sample(lines, chance.randint(0, len(lines))))
+
+
+def random_save_order(chance):
+    order = []
+    for _ in range(chance.randint(1, 6)):
+        writer = chance.choice([name for name in "abc" if not (order and order[-1][0] == name)])
+        order.append((writer, chance.randint(1, 4)))
+    return order
 
 
 def random_values(chance):
@@ -117,6 +168,9 @@ def random_values(chance):
     total = len(expand(content))
     schedule = random_schedule(chance, counts, chance.randint(0, 8))
     found = overwrites.gaps(counts, content) or [("b", 1, 1, 0, 0)]
+    order = random_save_order(chance)
+    outcomes = save_orders.count_outcomes(order)
+    outcome = save_orders.nth_outcome(order, chance.randrange(outcomes))
     return {
         "any": list(content),
         "any schedule": list(schedule),
@@ -134,6 +188,16 @@ def random_values(chance):
         "schedule": schedule,
         "log": model_after(counts, schedule).log(),
         "line set": random_line_set(chance, counts),
+        "any obstruction of a set": chance.choice([("no last",), ("gaps", "a", 1, 0)]),
+        "any atomic obstruction": ("atomic", chance.choice(found)),
+        "any outcome": list(outcome),
+        "table": {writer: chance.randint(0, 2) for writer in "abn" if chance.random() < 0.7},
+        "size": chance.randint(0, 9),
+        "atomic set": random_line_set(chance, counts),
+        "save order": order,
+        "outcome index": chance.randrange(outcomes),
+        "outcome": outcome,
+        "saved line": (order[0][0], 1),
     }
 
 
@@ -209,6 +273,33 @@ def bad_line_sets():
     ]
 
 
+def bad_tables():
+    return [
+        [], (), "a", [("a", 1)], {"a"}, {"c": 1}, {"c": 0}, {"a": 1, "z": 0}, {"A": 1}, {"": 1},
+        {1: 1}, {None: 0}, {b"a": 1}, {("a",): 1}, {"a": -1}, {"a": MOST + 1}, {"a": 10 ** 40},
+        {"a": True}, {"a": False}, {"a": 1.0}, {"a": "1"}, {"a": None}, {"a": [1]}, {"a": (1,)},
+        {"a": 1, "b": -1}, {"n": -1}, {"a": Prickly()},
+    ]
+
+
+def bad_save_orders():
+    return [
+        [], (), {}, "a1", (("a", 1),), {"a": 1}, {("a", 1)}, [["a", 1]], [("a",)], [()],
+        [("a", 1, 1)], [("a", 0)], [("a", -1)], [("a", True)], [("a", False)], [("a", 1.0)],
+        [("a", "1")], [("a", None)], [("A", 1)], [("", 1)], [("abcdefghi", 1)], [(1, 1)],
+        [(None, 1)], [(["a"], 1)], [("a", 1), ("a", 1)], [("a", 1), ("b", 1), ("b", 2)],
+        [("a", MOST + 1)], [("a", MOST), ("b", 1), ("a", 1)], [("a", 1), Prickly()],
+        [(letter, 1) for letter in "abcdefghijklm"], [(Prickly(), 1)], [("a", Prickly())],
+    ]
+
+
+def bad_outcomes():
+    return bad_contents() + [
+        [], (), [("a", 1, 2)], [("a", 3, 3)], [("b", 1, 1)], [("a", 2, 3)], [("a", 1, 4)],
+        [("a", 1, 3), ("b", 1, 1)], [("c", 1, 1), ("a", 3, 3)], [("b", 1, 1), ("a", 1, 3)],
+    ]
+
+
 def bad_values(kind):
     """New wrong arguments of a kind, beside the good values of the other arguments."""
     return odd_values() + {
@@ -223,4 +314,11 @@ def bad_values(kind):
         "schedule": bad_schedules,
         "log": bad_logs,
         "line set": bad_line_sets,
+        "table": bad_tables,
+        "size": lambda: bad_integers() + [61, 62, MOST],
+        "atomic set": bad_line_sets,
+        "save order": bad_save_orders,
+        "outcome index": lambda: bad_integers() + [4, 5, MOST],
+        "outcome": bad_outcomes,
+        "saved line": lambda: bad_lines() + [[], {}, ("a", 4), ("b", 2), ("c", 1)],
     }[kind]()

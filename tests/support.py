@@ -274,12 +274,65 @@ def search_overwrites(line_counts):
     return found
 
 
+def search_atomic(line_counts, atomic):
+    """What is on the page at the end of schedules in which these lines overwrite nothing."""
+    writers = sorted(line_counts)
+    start = (((0,) * len(writers), (), (None,) * len(writers)), (False,) * len(writers))
+    seen = {start}
+    waiting = [start]
+    finals = set()
+    while waiting:
+        state, stale = waiting.pop()
+        if list(state[0]) == [line_counts[writer] for writer in writers]:
+            finals.add(state[1])
+        for after in steps(state, line_counts):
+            saver = [at for at in range(len(writers)) if after[0][at] != state[0][at]]
+            marks = stale
+            if saver:
+                if stale[saver[0]] and (writers[saver[0]], after[0][saver[0]]) in atomic:
+                    continue
+                marks = tuple(copy is not None for copy in after[2])
+            if (after, marks) not in seen:
+                seen.add((after, marks))
+                waiting.append((after, marks))
+    return finals
+
+
 def all_line_sets(line_counts):
     """All sets of lines, each as a tuple of lines."""
     lines = [(writer, number) for writer in sorted(line_counts)
              for number in range(1, line_counts[writer] + 1)]
     return [chosen for size in range(len(lines) + 1)
             for chosen in itertools.combinations(lines, size)]
+
+
+def model_gap_counts(counts, lines):
+    found = {}
+    for writer in sorted(counts):
+        missing = [number for number in range(1, counts[writer] + 1)
+                   if (writer, number) not in lines]
+        found[writer] = sum(number - 1 not in missing for number in missing)
+    return found
+
+
+def model_survival_obstructions(counts, lines):
+    """All obstructions that apply to a set of single lines, in the order of point 34."""
+    if not any(counts.values()):
+        return []
+    firsts = [line for line in sorted(lines) if line[1] == 1]
+    lasts = [line for line in sorted(lines) if line[1] == counts[line[0]]]
+    found = []
+    if not firsts:
+        found.append(("no first",))
+    if not lasts:
+        found.append(("no last",))
+    if len(firsts) == len(lasts) == 1 and firsts == lasts and len(lines) > 1:
+        found.append(("single end", firsts[0]))
+    for writer, many in model_gap_counts(counts, lines).items():
+        others = sum(line[0] != writer for line in lines)
+        if many > others:
+            found.append(("gaps", writer, many, others))
+    return found
 
 
 def search_logs(line_counts):

@@ -4,7 +4,8 @@ import inspect
 import unittest
 
 from lastcopy import (
-    check_final, check_overwrites, contents, errors, final, overwrites, schedules, survivors,
+    atomic, check_final, check_overwrites, check_survivors, contents, counting, errors, final,
+    overwrites, save_orders, schedules, survivors,
 )
 
 SIGNATURES = {
@@ -44,6 +45,30 @@ SIGNATURES = {
         "lost_lines(line_counts, line_set)", "gap_counts(line_counts, line_set)",
         "can_survive(line_counts, line_set)", "survival_obstruction(line_counts, line_set)",
         "content_for(line_counts, line_set)", "lines_in_content(content)",
+    ],
+    check_survivors: ["is_survival_obstruction(line_counts, line_set, value)"],
+    counting: [
+        "can_survive_counts(line_counts, survivor_counts)", "min_surviving_lines(line_counts)",
+        "count_survivor_sets(line_counts, size)",
+        "count_contents_by_runs(line_counts, run_counts)", "count_final_contents(line_counts)",
+    ],
+    atomic: [
+        "is_atomic_schedule(line_counts, atomic, value)",
+        "can_be_final_atomic(line_counts, atomic, content)",
+        "atomic_final_obstruction(line_counts, atomic, content)",
+        "is_atomic_final_obstruction(line_counts, atomic, content, value)",
+        "schedule_to_final_atomic(line_counts, atomic, content)",
+        "min_non_atomic_lines(line_counts, content)",
+        "required_non_atomic_lines(line_counts, atomic, content)",
+        "count_atomic_sets(line_counts, content)",
+    ],
+    save_orders: [
+        "line_counts_of(save_order)", "is_outcome(save_order, value)",
+        "count_outcomes(save_order)", "nth_outcome(save_order, index)",
+        "outcome_index(save_order, content)", "shortest_outcome(save_order)",
+        "count_outcomes_with(save_order, line)",
+        "count_outcomes_with_both(save_order, one, other)",
+        "lines_in_all_outcomes(save_order)",
     ],
 }
 ERROR_NAMES = [

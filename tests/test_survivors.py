@@ -11,8 +11,8 @@ from lastcopy.survivors import (
     can_survive, content_for, gap_counts, lines_in_content, lost_lines, survival_obstruction,
 )
 from tests.support import (
-    all_line_sets, compress, expand, line_set_of, odd_values, random_content, random_final,
-    search_contents,
+    all_line_sets, expand, line_set_of, model_gap_counts, model_survival_obstructions, odd_values,
+    random_content, random_final, search_contents,
 )
 
 MOST = 10 ** 30
@@ -32,35 +32,6 @@ def lines_of_set(line_set):
 
 def total_of_set(line_set):
     return sum(last - first + 1 for listed in line_set.values() for first, last in listed)
-
-
-def model_gap_counts(counts, lines):
-    found = {}
-    for writer in sorted(counts):
-        missing = [number for number in range(1, counts[writer] + 1)
-                   if (writer, number) not in lines]
-        found[writer] = sum(number - 1 not in missing for number in missing)
-    return found
-
-
-def model_obstructions(counts, lines):
-    """All obstructions that apply to a set of single lines, in the order of point 34."""
-    if not any(counts.values()):
-        return []
-    firsts = [line for line in sorted(lines) if line[1] == 1]
-    lasts = [line for line in sorted(lines) if line[1] == counts[line[0]]]
-    found = []
-    if not firsts:
-        found.append(("no first",))
-    if not lasts:
-        found.append(("no last",))
-    if len(firsts) == len(lasts) == 1 and firsts == lasts and len(lines) > 1:
-        found.append(("single end", firsts[0]))
-    for writer, many in model_gap_counts(counts, lines).items():
-        others = sum(line[0] != writer for line in lines)
-        if many > others:
-            found.append(("gaps", writer, many, others))
-    return found
 
 
 def random_line_set(chance, counts, most):
@@ -222,7 +193,7 @@ class SurviveTest(SurvivorTest):
                 line_set = line_set_of(lines)
                 expected = lines in survivors
                 self.assertIs(can_survive(counts, line_set), expected, (counts, lines))
-                found = model_obstructions(counts, lines)
+                found = model_survival_obstructions(counts, lines)
                 self.assertIs(found == [], expected)
                 self.assertEqual(survival_obstruction(counts, line_set), found[0] if found else None)
 
@@ -232,7 +203,7 @@ class SurviveTest(SurvivorTest):
         for _ in range(1500):
             counts = {name: chance.randint(0, 9) for name in chance.sample("abcdef", 3)}
             line_set = random_line_set(chance, counts, 4)
-            found = model_obstructions(counts, lines_of_set(line_set))
+            found = model_survival_obstructions(counts, lines_of_set(line_set))
             expected = found[0] if found else None
             self.assertEqual(survival_obstruction(counts, line_set), expected)
             self.assertIs(can_survive(counts, line_set), expected is None)
@@ -279,7 +250,7 @@ class ContentTest(SurvivorTest):
                        {"a": 2, "b": 2, "c": 2, "d": 2}, {"a": 4, "b": 1, "c": 3}):
             for lines in all_line_sets(counts):
                 line_set = line_set_of(lines)
-                if model_obstructions(counts, lines):
+                if model_survival_obstructions(counts, lines):
                     self.assertIsNone(content_for(counts, line_set))
                 else:
                     self.check_content(counts, line_set)
@@ -317,7 +288,7 @@ class ContentTest(SurvivorTest):
                     ends = chance.choice([True, False])
                     first = counts[name] - share + 1 if ends else 1
                     line_set[name] = [(first, first + share - 1)]
-            if not model_obstructions(counts, lines_of_set(line_set)):
+            if not model_survival_obstructions(counts, lines_of_set(line_set)):
                 self.check_content(counts, line_set)
             elif need > 0:
                 shorter = {name: listed for name, listed in line_set.items() if name == "m"}
