@@ -59,6 +59,41 @@ def cut(runs, count):
     return (front, back)
 
 
+def place_of(runs, line):
+    """The first index of a line, or None."""
+    before = 0
+    for writer, first, last in runs:
+        if writer == line[0] and first <= line[1] <= last:
+            return before + line[1] - first
+        before += last - first + 1
+    return None
+
+
+def common_prefix(runs, others):
+    """The lines with which both contents begin."""
+    shared = []
+    for run, other in zip(runs, others):
+        if run[:2] != other[:2]:
+            return shared
+        shared.append((run[0], run[1], min(run[2], other[2])))
+        if run[2] != other[2]:
+            return shared
+    return shared
+
+
+def begins_with(runs, others):
+    """Whether the others are the first lines of the runs."""
+    if not others:
+        return True
+    if len(others) > len(runs):
+        return False
+    # A content has only one form, so all runs but the last one must be the same.
+    end = len(others) - 1
+    writer, first, last = others[end]
+    same_start = others[:end] == runs[:end] and (writer, first) == runs[end][:2]
+    return same_start and last <= runs[end][2]
+
+
 def joined_intervals(intervals):
     """The intervals, in any order, with those that overlap or touch made one."""
     joined = []
@@ -105,28 +140,14 @@ def line_at(content, index):
 
 def index_of(content, line):
     runs = checked_content(None, content)
-    wanted, number = checked_line(None, line)
-    before = 0
-    for writer, first, last in runs:
-        if writer == wanted and first <= number <= last:
-            return before + number - first
-        before += last - first + 1
-    return None
+    wanted = checked_line(None, line)
+    return place_of(runs, wanted)
 
 
 def is_prefix(content, other):
     runs = checked_content(None, content)
     others = checked_content(None, other)
-    if not runs:
-        return True
-    if len(runs) > len(others):
-        return False
-    # A content has only one form, so all runs but the last one must be the same.
-    end = len(runs) - 1
-    writer, first, last = runs[end]
-    other_writer, other_first, other_last = others[end]
-    same_start = runs[:end] == others[:end] and (writer, first) == (other_writer, other_first)
-    return same_start and last <= other_last
+    return begins_with(others, runs)
 
 
 def append_line(content, line):

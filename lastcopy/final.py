@@ -17,12 +17,16 @@ def appearing_obstruction(runs):
     return None
 
 
-def latest_numbers(counts, runs):
-    """Each writer's last number in a content that can appear, 0 if it has no line there."""
-    latest = {writer: 0 for writer in counts}
+def latest_numbers(before, runs):
+    """Each writer's last number in ascending runs, or its number before them."""
+    latest = dict(before)
     for writer, first, last in runs:
         latest[writer] = last
     return latest
+
+
+def no_numbers(counts):
+    return {writer: 0 for writer in counts}
 
 
 def can_appear(line_counts, content):
@@ -47,21 +51,24 @@ def final_obstruction(line_counts, content):
     return ("end",) if last != counts[writer] else None
 
 
-def lost_between_runs(runs):
-    """The appends of lines missing before a run, by the index of the run directly before it."""
-    latest = {}
+def lost_between_runs(before, runs):
+    """The appends of lines missing before a run, by the index of the run directly before it.
+
+    The runs go on from the numbers that the writers have before them.
+    """
+    latest = dict(before)
     lost = {}
     for index, (writer, first, last) in enumerate(runs):
-        missing = first - 1 - latest.get(writer, 0)
+        missing = first - 1 - latest[writer]
         if missing > 0:
             lost[index - 1] = [("append", writer, missing)]
         latest[writer] = last
     return lost
 
 
-def lost_at_the_end(counts, runs):
-    """The appends of the lines behind each writer's last line in the content."""
-    latest = latest_numbers(counts, runs)
+def lost_at_the_end(counts, before, runs):
+    """The appends of the lines behind each writer's last line."""
+    latest = latest_numbers(before, runs)
     return [("append", writer, counts[writer] - latest[writer])
             for writer in counts if latest[writer] < counts[writer]]
 
@@ -90,8 +97,8 @@ def schedule_to_final(line_counts, content):
     runs = checked_content(counts, content)
     if final_obstruction(counts, runs) is not None:
         return None
-    lost = lost_between_runs(runs)
-    behind = lost_at_the_end(counts, runs)
+    lost = lost_between_runs(no_numbers(counts), runs)
+    behind = lost_at_the_end(counts, no_numbers(counts), runs)
     if behind:
         lost[len(runs) - 1] = behind
     return schedule_of_runs(runs, lost)
@@ -102,7 +109,7 @@ def schedule_to_appear(line_counts, content):
     runs = checked_content(counts, content)
     if appearing_obstruction(runs) is not None:
         return None
-    return schedule_of_runs(runs, lost_between_runs(runs))
+    return schedule_of_runs(runs, lost_between_runs(no_numbers(counts), runs))
 
 
 def next_lines(line_counts, content):
@@ -110,7 +117,7 @@ def next_lines(line_counts, content):
     runs = checked_content(counts, content)
     if appearing_obstruction(runs) is not None:
         return None
-    latest = latest_numbers(counts, runs)
+    latest = latest_numbers(no_numbers(counts), runs)
     found = []
     for writer in sorted(counts):
         first = latest[writer] + 1

@@ -24,6 +24,17 @@ class Save:
         self.is_overwrite = is_overwrite
 
 
+def is_possible(action, left, has_copy):
+    """Whether a writer with so many lines left, and perhaps a copy, can perform an action."""
+    if action[0] == "save":
+        return has_copy
+    if has_copy:
+        return False
+    if action[0] == "read":
+        return left > 0
+    return action[2] <= left
+
+
 class Replay:
     """What the actions so far have done.
 
@@ -38,16 +49,20 @@ class Replay:
         self.reads = {}
         self.saves = []
 
-    def is_possible(self, action):
+    def resume(self, saved, page, copies):
+        """Lets the actions start from a state; its copies were read before all saves."""
+        self.saved = dict(saved)
+        self.page = page
+        self.copies = dict(copies)
+        self.reads = {writer: 0 for writer in copies}
+
+    def can_perform(self, action):
         writer = action[1]
-        if action[0] == "save":
-            return writer in self.copies
-        if writer in self.copies:
-            return False
-        left = self.counts[writer] - self.saved[writer]
-        if action[0] == "read":
-            return left > 0
-        return action[2] <= left
+        return is_possible(action, self.counts[writer] - self.saved[writer], writer in self.copies)
+
+    def state(self):
+        copies = {writer: list(self.copies[writer]) for writer in self.copies}
+        return (dict(self.saved), list(self.page), copies)
 
     def perform(self, index, action):
         writer = action[1]
@@ -92,16 +107,19 @@ def plain_action(line_counts, value):
     return (name, writer, count)
 
 
-def replay_schedule(line_counts, schedule):
-    counts = checked_line_counts(line_counts)
-    if type(schedule) != list:
+def perform_all(replay, actions):
+    if type(actions) != list:
         raise InvalidAction(None)
-    replay = Replay(counts)
-    for index, item in enumerate(schedule):
-        action = plain_action(counts, item)
-        if action is None or not replay.is_possible(action):
+    for index, item in enumerate(actions):
+        action = plain_action(replay.counts, item)
+        if action is None or not replay.can_perform(action):
             raise InvalidAction(index)
         replay.perform(index, action)
+
+
+def replay_schedule(line_counts, schedule):
+    replay = Replay(checked_line_counts(line_counts))
+    perform_all(replay, schedule)
     return replay
 
 
@@ -114,9 +132,7 @@ def is_schedule(line_counts, value):
 
 
 def state_after(line_counts, schedule):
-    replay = replay_schedule(line_counts, schedule)
-    copies = {writer: list(replay.copies[writer]) for writer in replay.copies}
-    return (replay.saved, list(replay.page), copies)
+    return replay_schedule(line_counts, schedule).state()
 
 
 def page_history(line_counts, schedule):
@@ -211,28 +227,45 @@ def checked_log(line_counts, value):
     return entries
 
 
+def piece_with(pieces, number):
+    """The last of some ascending pieces that starts at most at the number, or None."""
+    low = 0
+    high = len(pieces)
+    while low < high:
+        middle = (low + high) // 2
+        if pieces[middle][0] <= number:
+            low = middle + 1
+        else:
+            high = middle
+    return pieces[low - 1] if low > 0 else None
+
+
 class SaveTimes:
-    """When lines are saved. The time of a save or a read is the number of lines saved before it."""
+    """When lines are saved. The time of a save or a read is the number of lines saved before it.
+
+    The lines of each writer are added in ascending order.
+    """
 
     def __init__(self):
         self.total = 0
-        self.pieces = []
-        self.latest = {}
+        self.pieces = {}
 
     def add_lines(self, writer, first, last):
-        self.pieces.append((writer, first, last, self.total))
+        self.pieces.setdefault(writer, []).append((first, last, self.total))
         self.total += last - first + 1
-        self.latest[writer] = last
+
+    def latest(self, writer):
+        return self.pieces[writer][-1][1] if writer in self.pieces else 0
 
     def save_time(self, line):
-        for writer, first, last, start in self.pieces:
-            if writer == line[0] and first <= line[1] <= last:
-                return start + line[1] - first
-        return None
+        piece = piece_with(self.pieces.get(line[0], []), line[1])
+        if piece is None or line[1] > piece[1]:
+            return None
+        return piece[2] + line[1] - piece[0]
 
     def read_time(self, writer, base):
         """The time of a read that gives the writer this base, or None if the base is not allowed."""
-        latest = self.latest.get(writer, 0)
+        latest = self.latest(writer)
         if base is None:
             return 0 if latest == 0 else None
         time = self.save_time(base)
@@ -243,22 +276,21 @@ class SaveTimes:
         return time + 1
 
 
-def read_times(entries):
-    """The time of each entry's first read, up to the first impossible entry."""
+def add_entries(saves, entries):
+    """Adds the entries up to the first impossible one; returns the time of each one's first read."""
     found = []
-    times = SaveTimes()
     for writer, first, last, base in entries:
-        time = times.read_time(writer, base)
-        if time is None or first != times.latest.get(writer, 0) + 1:
+        time = saves.read_time(writer, base)
+        if time is None or first != saves.latest(writer) + 1:
             return found
         found.append(time)
-        times.add_lines(writer, first, last)
+        saves.add_lines(writer, first, last)
     return found
 
 
 def first_invalid_save(line_counts, log):
     entries = checked_log(line_counts, log)
-    possible = len(read_times(entries))
+    possible = len(add_entries(SaveTimes(), entries))
     if possible == len(entries):
         return None
     return possible
@@ -275,33 +307,53 @@ def early_readers(entries, times):
     return readers
 
 
-def stops_of_entry(start, end, is_early, readers):
-    """The times, up to the end, at which the saves of an entry must stop for other actions."""
-    stops = [time for time in sorted(readers) if start < time < end] + [end]
-    # A copy that was read early takes one line; the others follow by an append.
-    if is_early and stops[0] > start + 1:
-        return [start + 1] + stops
-    return stops
+def stops_of_entries(entries, readers):
+    """For each entry the times at which its saves must stop for reads, its end at last."""
+    reads = sorted(readers)
+    at = 0
+    end = 0
+    found = []
+    for writer, first, last, base in entries:
+        start = end
+        end += last - first + 1
+        stops = []
+        while at < len(reads) and reads[at] < end:
+            if reads[at] > start:
+                stops.append(reads[at])
+            at += 1
+        found.append(stops + [end])
+    return found
+
+
+def schedule_of_log(entries, held):
+    """A schedule with this log, which is possible, after which the writers of held hold copies.
+
+    The dict held has the last line of each copy.
+    """
+    saves = SaveTimes()
+    times = add_entries(saves, entries)
+    readers = early_readers(entries, times)
+    for holder, line in held.items():
+        readers.setdefault(saves.read_time(holder, line), []).append(holder)
+    schedule = [("read", reader) for reader in readers.get(0, [])]
+    done = 0
+    for entry, time, stops in zip(entries, times, stops_of_entries(entries, readers)):
+        writer = entry[0]
+        if time < done:
+            # A copy that was read early takes one line; the others follow by an append.
+            schedule.append(("save", writer))
+            done += 1
+            schedule.extend([("read", reader) for reader in readers.get(done, [])])
+        for stop in stops:
+            if stop > done:
+                schedule.append(("append", writer, stop - done))
+                schedule.extend([("read", reader) for reader in readers.get(stop, [])])
+                done = stop
+    return schedule
 
 
 def schedule_for_log(line_counts, log):
     entries = checked_log(line_counts, log)
-    times = read_times(entries)
-    if len(times) < len(entries):
+    if len(add_entries(SaveTimes(), entries)) < len(entries):
         return None
-    readers = early_readers(entries, times)
-    schedule = [("read", reader) for reader in readers.get(0, [])]
-    start = 0
-    for entry, time in zip(entries, times):
-        writer = entry[0]
-        is_early = time < start
-        done = start
-        for stop in stops_of_entry(start, start + entry[2] - entry[1] + 1, is_early, readers):
-            if is_early and done == start:
-                schedule.append(("save", writer))
-            else:
-                schedule.append(("append", writer, stop - done))
-            schedule.extend([("read", reader) for reader in readers.get(stop, [])])
-            done = stop
-        start = done
-    return schedule
+    return schedule_of_log(entries, {})

@@ -1,12 +1,12 @@
 """Every function of these modules: the kinds of its arguments, wrong values, and good calls."""
 
 from lastcopy import (
-    atomic, check_final, check_overwrites, check_survivors, contents, counting, errors, final,
-    overwrites, save_orders, schedules, survivors,
+    atomic, certainty, check_final, check_observations, check_overwrites, check_survivors, contents,
+    counting, errors, final, observations, overwrites, save_orders, schedules, states, survivors,
 )
 from tests.support import (
-    Prickly, expand, line_set_of, model_after, odd_values, random_content, random_final,
-    random_schedule,
+    Prickly, compress, expand, is_one_empty_content, line_set_of, model_after, odd_values,
+    random_content, random_final, random_schedule,
 )
 
 MOST = 10 ** 30
@@ -81,6 +81,34 @@ FUNCTIONS = [
     (save_orders, "count_outcomes_with", ["save order", "saved line"]),
     (save_orders, "count_outcomes_with_both", ["save order", "saved line", "saved line"]),
     (save_orders, "lines_in_all_outcomes", ["save order"]),
+    (observations, "constraints", ["counts", "observations"]),
+    (observations, "is_consistent", ["counts", "observations"]),
+    (observations, "observation_obstruction", ["counts", "observations"]),
+    (observations, "consistent_order", ["counts", "observations"]),
+    (observations, "schedule_with_observations", ["counts", "observations"]),
+    (check_observations, "is_observation_obstruction",
+     ["counts", "observations", "any obstruction of observations"]),
+    (check_observations, "satisfies_constraints", ["counts", "observations", "any complete order"]),
+    (check_observations, "is_observed_in", ["counts", "any schedule", "observations"]),
+    (certainty, "certain_order", ["counts", "consistent observations", "line", "other line"]),
+    (certainty, "min_saves_before", ["counts", "consistent observations", "line"]),
+    (certainty, "max_saves_before", ["counts", "consistent observations", "line"]),
+    (certainty, "orders_both_ways", ["counts", "consistent observations", "line", "other line"]),
+    (certainty, "min_saves_between", ["counts", "consistent observations", "line", "other line"]),
+    (certainty, "possible_first_writers", ["counts", "consistent observations"]),
+    (certainty, "possible_last_writers", ["counts", "consistent observations"]),
+    (certainty, "covering_runs", ["counts", "final content", "line"]),
+    (certainty, "schedule_covering", ["counts", "final content", "line", "other line"]),
+    (states, "is_state", ["counts", "any state"]),
+    (states, "schedule_to_state", ["counts", "state"]),
+    (states, "state_after_actions", ["counts", "state", "actions"]),
+    (states, "possible_bases", ["counts", "state"]),
+    (states, "guaranteed_lines", ["counts", "state"]),
+    (states, "permanently_lost", ["counts", "state"]),
+    (states, "can_become_final", ["counts", "state", "content"]),
+    (states, "finality_obstructions", ["counts", "state", "content"]),
+    (states, "actions_to_final", ["counts", "state", "content"]),
+    (states, "reachable_final_contents", ["counts", "state"]),
 ]
 
 
@@ -107,6 +135,12 @@ ERRORS = {
     "outcome index": errors.InvalidInteger,
     "outcome": errors.InvalidContent,
     "saved line": errors.InvalidLine,
+    "observations": errors.InvalidObservations,
+    "consistent observations": errors.InvalidObservations,
+    "other line": errors.InvalidLine,
+    "final content": errors.InvalidContent,
+    "state": errors.InvalidState,
+    "actions": errors.InvalidAction,
 }
 
 
@@ -142,7 +176,21 @@ def good_value(kind):
         "outcome index": 3,
         "outcome": [("a", 1, 2), ("b", 1, 1), ("a", 3, 3)],
         "saved line": ("a", 3),
+        "observations": [[], [("a", 1, 2)], (("b", 1, 1),), [("b", 1, 1), ("a", 3, 3)]],
+        "consistent observations": [[], [("a", 1, 2)], (("b", 1, 1),), [("b", 1, 1), ("a", 3, 3)]],
+        "any obstruction of observations": ("cycle", [None, ("a", 1)]),
+        "any complete order": [("a", 4), ("b", 3)],
+        "other line": ("b", 2),
+        "final content": content,
+        "state": good_state(),
+        "any state": good_state(),
+        "actions": [("append", "a", 1), ("save", "b"), ("read", "a")],
     }[kind]
+
+
+def good_state():
+    """A state of the good line counts: b holds a copy, and five lines are left."""
+    return ({"b": 1, "a": 1, "n": 0}, [("b", 1, 1), ("a", 1, 1)], {"b": [("b", 1, 1)]})
 
 
 def random_line_set(chance, counts):
@@ -171,6 +219,8 @@ def random_values(chance):
     order = random_save_order(chance)
     outcomes = save_orders.count_outcomes(order)
     outcome = save_orders.nth_outcome(order, chance.randrange(outcomes))
+    seen = random_pages(chance, model_after(counts, schedule))
+    state, actions = random_state(chance, counts)
     return {
         "any": list(content),
         "any schedule": list(schedule),
@@ -198,7 +248,33 @@ def random_values(chance):
         "outcome index": chance.randrange(outcomes),
         "outcome": outcome,
         "saved line": (order[0][0], 1),
+        "observations": [list(runs) for runs in seen] + ([content] if chance.random() < 0.3 else []),
+        "consistent observations": seen,
+        "any obstruction of observations": ("conflict", 0, 1, ("a", chance.randint(1, 4))),
+        "any complete order": [("a", 4), ("c", 2), ("b", 3)],
+        "other line": ("b", chance.randint(1, 3)),
+        "final content": random_final(chance, counts, 5),
+        "state": state,
+        "any state": state,
+        "actions": actions,
     }
+
+
+def random_pages(chance, model):
+    """Some of the contents on the page over time."""
+    places = sorted(chance.choices(range(len(model.history)), k=chance.randint(1, 4)))
+    return [compress(model.history[place]) for place in places]
+
+
+def random_state(chance, counts):
+    """A state in which at least two lines are saved, and actions that go on from it."""
+    while True:
+        schedule = random_schedule(chance, counts, 14, 2)
+        cut = chance.randint(2, 9)
+        model = model_after(counts, schedule[:cut])
+        if sum(model.saved.values()) > 1:
+            copies = {holder: compress(copy) for holder, copy in model.copies.items()}
+            return (model.saved, compress(model.page), copies), schedule[cut:]
 
 
 def random_arguments(chance, kinds):
@@ -300,9 +376,52 @@ def bad_outcomes():
     ]
 
 
+def bad_observations():
+    return [
+        [], (), {}, "a", [[]] * 13, ((),) * 14, [("a", 1, 1)], (("a", 1, 1),), [[("a", 1, 5)]],
+        [[("c", 1, 1)]], [[("n", 1, 1)]], [[["a", 1, 1]]], [[("a", True, 1)]], [[("a", 1)]],
+        [[("a", 1, 1), ("a", 2, 2)]], [[], None], [[], "", []], [[], {}], [[], Prickly()],
+        [[("a", 1, 1), Prickly()]], {0: []}, iter([[]]), [set()], [iter([])], [range(0)],
+    ]
+
+
+def inconsistent_observations():
+    return [
+        [[("a", 2, 2)]], [[("a", 1, 1)], []], [[("b", 1, 1), ("b", 1, 1)]],
+        [[("a", 1, 1), ("b", 1, 1)], [("b", 1, 1)]], [[("a", 1, 2)], [("a", 1, 1)]],
+        [[("a", 1, 1)], [("b", 1, 1)], [("a", 1, 1)]], [[("a", 1, 1), ("a", 3, 3)]],
+    ]
+
+
+def bad_states():
+    """States with one part changed."""
+    saved, page, copies = good_state()
+    return [
+        (), (saved, page), (saved, page, copies, {}), [saved, page, copies], {}, "state",
+        ({"b": 1, "a": 1}, page, copies), ({"b": 1, "a": 1, "n": 0, "c": 0}, page, copies),
+        ({"b": 1, "a": True, "n": 0}, page, copies), ({"b": 1, "a": 5, "n": 0}, page, copies),
+        ({"b": 1, "a": -1, "n": 0}, page, copies), ({"b": 1, "a": 1, "n": False}, page, copies),
+        ({"b": 2, "a": 1, "n": 0}, page, copies), ({"b": 1, "a": 2, "n": 0}, page, copies),
+        ({"b": 1, "a": 0, "n": 0}, page, copies), ({"b": 3, "a": 1, "n": 0}, page, copies),
+        ({"b": 1, "a": 1, 0: 0}, page, copies), ([1, 1, 0], page, copies), (None, page, copies),
+        (saved, [], copies), (saved, [("a", 1, 1), ("b", 1, 1)], copies),
+        (saved, [("b", 1, 1), ("a", 2, 2)], copies), (saved, None, copies), (saved, {}, copies),
+        (saved, [("b", 1, 1), ["a", 1, 1]], copies), (saved, Prickly(), copies),
+        (saved, page, {"b": []}), (saved, page, {"n": []}), (saved, page, {"c": []}),
+        (saved, page, {"b": [("a", 1, 1)]}), (saved, page, {"b": [("b", 1, 2)]}),
+        (saved, page, {"b": None}), (saved, page, []), (saved, page, None), (saved, page, {1: []}),
+        (saved, page, {"b": [("b", 1, 1), ("b", 1, 1)]}), (saved, page, {None: []}),
+        (saved, page, {"b": Prickly()}), (Prickly(), page, copies), (saved, page, Prickly()),
+        (saved, copies, page), (page, saved, copies), ({}, [], {}),
+    ]
+
+
 def bad_values(kind):
     """New wrong arguments of a kind, beside the good values of the other arguments."""
-    return odd_values() + {
+    values = odd_values()
+    if "observations" in kind:
+        values = [value for value in values if not is_one_empty_content(value)]
+    return values + {
         "counts": bad_counts,
         "line": lambda: bad_lines() + [[], {}, ("c", 1), ("a", 5), ("n", 0), ("n", 1)],
         "free line": lambda: bad_lines() + [[], {}],
@@ -321,4 +440,11 @@ def bad_values(kind):
         "outcome index": lambda: bad_integers() + [4, 5, MOST],
         "outcome": bad_outcomes,
         "saved line": lambda: bad_lines() + [[], {}, ("a", 4), ("b", 2), ("c", 1)],
+        "observations": bad_observations,
+        "consistent observations": lambda: bad_observations() + inconsistent_observations(),
+        "other line": lambda: bad_lines() + [[], {}, ("c", 1), ("a", 5), ("n", 0), ("n", 1)],
+        "final content": lambda: bad_contents() + [
+            [], [("a", 1, 1)], [("a", 3, 4)], [("b", 1, 1), ("b", 3, 3)], [("c", 1, 1)]],
+        "state": bad_states,
+        "actions": lambda: bad_schedules() + [[("read", "b")], [("append", "b", 1)]],
     }[kind]()

@@ -46,6 +46,11 @@ def odd_values():
     ]
 
 
+def is_one_empty_content(value):
+    """Whether an odd value is a list of one empty content, which is an observation."""
+    return type(value) is list and len(value) == 1 and type(value[0]) in (list, tuple) and not value[0]
+
+
 def expand(content):
     return [(writer, number) for writer, first, last in content
             for number in range(first, last + 1)]

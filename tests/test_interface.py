@@ -4,8 +4,8 @@ import inspect
 import unittest
 
 from lastcopy import (
-    atomic, check_final, check_overwrites, check_survivors, contents, counting, errors, final,
-    overwrites, save_orders, schedules, survivors,
+    atomic, certainty, check_final, check_observations, check_overwrites, check_survivors, contents,
+    counting, errors, final, observations, overwrites, save_orders, schedules, states, survivors,
 )
 
 SIGNATURES = {
@@ -69,6 +69,38 @@ SIGNATURES = {
         "count_outcomes_with(save_order, line)",
         "count_outcomes_with_both(save_order, one, other)",
         "lines_in_all_outcomes(save_order)",
+    ],
+    observations: [
+        "constraints(line_counts, observations, *, final=False)",
+        "is_consistent(line_counts, observations, *, final=False)",
+        "observation_obstruction(line_counts, observations, *, final=False)",
+        "consistent_order(line_counts, observations, *, final=False)",
+        "schedule_with_observations(line_counts, observations, *, final=False)",
+    ],
+    check_observations: [
+        "is_observation_obstruction(line_counts, observations, value, *, final=False)",
+        "satisfies_constraints(line_counts, observations, value, *, final=False)",
+        "is_observed_in(line_counts, value, observations, *, final=False)",
+    ],
+    certainty: [
+        "certain_order(line_counts, observations, first, second, *, final=False)",
+        "min_saves_before(line_counts, observations, line, *, final=False)",
+        "max_saves_before(line_counts, observations, line, *, final=False)",
+        "orders_both_ways(line_counts, observations, first, second, *, final=False)",
+        "min_saves_between(line_counts, observations, first, second, *, final=False)",
+        "possible_first_writers(line_counts, observations, *, final=False)",
+        "possible_last_writers(line_counts, observations, *, final=False)",
+        "covering_runs(line_counts, content, line)",
+        "schedule_covering(line_counts, content, line, by)",
+    ],
+    states: [
+        "is_state(line_counts, value)", "schedule_to_state(line_counts, state)",
+        "state_after_actions(line_counts, state, actions)", "possible_bases(line_counts, state)",
+        "guaranteed_lines(line_counts, state)", "permanently_lost(line_counts, state)",
+        "can_become_final(line_counts, state, content)",
+        "finality_obstructions(line_counts, state, content)",
+        "actions_to_final(line_counts, state, content)",
+        "reachable_final_contents(line_counts, state)",
     ],
 }
 ERROR_NAMES = [
