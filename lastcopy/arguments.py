@@ -126,7 +126,7 @@ def plain_line_set(line_counts, value):
     line_set = {}
     for key, listed in value.items():
         writer = plain_writer(key)
-        if writer not in line_counts:
+        if writer is None or (line_counts is not None and writer not in line_counts):
             return None
         intervals = plain_intervals(line_counts, writer, listed)
         if intervals is None:

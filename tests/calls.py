@@ -1,8 +1,12 @@
-"""Every function of these modules: the kinds of its arguments, wrong values, and good calls."""
+"""Every function of these modules: the kinds of its arguments, wrong values, and good calls.
+
+What takes a text, a page or an argument by name is in the tests of its module, too.
+"""
 
 from lastcopy import (
     atomic, certainty, check_final, check_observations, check_overwrites, check_survivors, contents,
-    counting, errors, final, observations, overwrites, save_orders, schedules, states, survivors,
+    counting, errors, final, formats, observations, overwrites, save_orders, schedules, states,
+    survivors, weights,
 )
 from tests.support import (
     Prickly, compress, expand, is_one_empty_content, line_set_of, model_after, odd_values,
@@ -109,6 +113,16 @@ FUNCTIONS = [
     (states, "finality_obstructions", ["counts", "state", "content"]),
     (states, "actions_to_final", ["counts", "state", "content"]),
     (states, "reachable_final_contents", ["counts", "state"]),
+    (weights, "total_weights", ["weights"]),
+    (weights, "min_weight", ["weights"]),
+    (weights, "max_weight", ["weights"]),
+    (weights, "is_reachable_weight", ["uniform", "total"]),
+    (weights, "lines_with_weight", ["uniform", "total"]),
+    (formats, "format_line_counts", ["counts"]),
+    (formats, "format_content", ["free content"]),
+    (formats, "format_line_set", ["free line set"]),
+    (formats, "format_schedule", ["free schedule"]),
+    (formats, "format_state", ["free state"]),
 ]
 
 
@@ -141,6 +155,12 @@ ERRORS = {
     "final content": errors.InvalidContent,
     "state": errors.InvalidState,
     "actions": errors.InvalidAction,
+    "weights": errors.InvalidNumbers,
+    "uniform": errors.InvalidNumbers,
+    "total": errors.InvalidInteger,
+    "free line set": errors.InvalidLineSet,
+    "free schedule": errors.InvalidAction,
+    "free state": errors.InvalidState,
 }
 
 
@@ -185,6 +205,12 @@ def good_value(kind):
         "state": good_state(),
         "any state": good_state(),
         "actions": [("append", "a", 1), ("save", "b"), ("read", "a")],
+        "weights": {"b": [2, -1, 0], "a": [MOST, 5], "n": []},
+        "uniform": {"b": (3, -1), "a": (2, 5)},
+        "total": 7,
+        "free line set": {"b": [(1, 1), (3, 3)], "n": [], "a": [(2, MOST)]},
+        "free schedule": schedule + [("save", "zz"), ("append", "b", MOST)],
+        "free state": ({"b": 1, "a": 0}, [("c", 2, 3)], {"b": [("b", 5, 5)], "a": ()}),
     }[kind]
 
 
@@ -257,6 +283,13 @@ def random_values(chance):
         "state": state,
         "any state": state,
         "actions": actions,
+        "weights": {name: [chance.randint(-9, 9) for _ in range(chance.randint(0, 3))]
+                    for name in chance.sample("abcd", 3)},
+        "uniform": {name: (chance.randint(0, 4), chance.randint(-5, 5)) for name in "ba"},
+        "total": chance.randint(-10, 10),
+        "free line set": random_line_set(chance, counts),
+        "free schedule": list(schedule),
+        "free state": (dict(state[0]), list(state[1]), dict(state[2])),
     }
 
 
@@ -416,9 +449,67 @@ def bad_states():
     ]
 
 
+def bad_weights():
+    return [
+        {}, [], (), "a", [("a", [1])], {"a"}, {"a": (1,)}, {"a": ()}, {"a": 1}, {"a": None},
+        {"a": "1"}, {"a": {}}, {"a": {1}}, {"a": range(2)}, {"a": [True]}, {"a": [1, False]},
+        {"a": [1.0]}, {"a": ["1"]}, {"a": [None]}, {"a": [[1]]}, {"A": [1]}, {"": []}, {1: []},
+        {None: [1]}, {b"a": [1]}, {"abcdefghi": []}, {"a": [1], "b": [Prickly()]},
+        {letter: [] for letter in "abcdefghijklm"}, {"a": iter([1])}, {("a",): [1]},
+    ]
+
+
+def bad_uniforms():
+    return [
+        {}, [], (), "a", [("a", (1, 1))], {"a"}, {"a": [1, 1]}, {"a": ()}, {"a": (1,)},
+        {"a": (1, 1, 1)}, {"a": 1}, {"a": None}, {"a": (-1, 1)}, {"a": (MOST + 1, 1)},
+        {"a": (True, 1)}, {"a": (1, True)}, {"a": (1.0, 1)}, {"a": (1, 1.0)}, {"a": ("1", 1)},
+        {"a": (1, None)}, {"a": (None, 1)}, {"A": (1, 1)}, {"": (1, 1)}, {1: (1, 1)},
+        {"abcdefghi": (1, 1)}, {"a": (1, 1), "b": (1, 1), "c": (1, 1)}, {"a": (1, Prickly())},
+        {"a": (Prickly(), 1)}, {"a": (1, 1), "b": [1, 1]}, {None: (1, 1)}, {"a": {1: 1, 2: 2}},
+    ]
+
+
+def bad_free_line_sets():
+    return [
+        [], (), "a", [("a", [(1, 1)])], {"a"}, {"A": []}, {"": []}, {1: []}, {None: []},
+        {b"a": []}, {"abcdefghi": []}, {"a": [(0, 1)]}, {"a": [(2, 1)]}, {"a": [(1, 1), (2, 3)]},
+        {"a": [(3, 3), (1, 1)]}, {"a": ((1, 1),)}, {"a": [[1, 1]]}, {"a": [(1,)]}, {"a": [(1, 1, 1)]},
+        {"a": [(True, 1)]}, {"a": [(1, True)]}, {"a": [(1.0, 1)]}, {"a": [None]}, {"a": None},
+        {"a": [(1, MOST + 1)]}, {"a": {(1, 1)}}, {"a": [(Prickly(), 1)]}, {"a": [], "b": ()},
+    ]
+
+
+def bad_free_schedules():
+    return [
+        (), {}, "read a", (("read", "a"),), [["read", "a"]], [("read",)], [("read", "a", 1)],
+        [("append", "a")], [("append", "a", 0)], [("append", "a", -1)], [("append", "a", True)],
+        [("append", "a", MOST + 1)], [("append", "a", 1.0)], [("append", "a", "1")],
+        [("leave", "a")], [("Read", "a")], [("read", "A")], [("read", "")], [("read", "abcdefghi")],
+        [("read", 1)], [("read", None)], [(1, "a")], [(Prickly(), "a")], [("read", Prickly())],
+        [("read", "a"), "save a"], [("append", "a", Prickly())], [()], [None],
+    ]
+
+
+def bad_free_states():
+    saved, page, copies = good_state()
+    return [
+        (), (saved, page), (saved, page, copies, {}), [saved, page, copies], {}, "state",
+        ({}, page, {}), ({"a": True}, page, {}), ({"a": -1}, page, {}), (None, page, copies),
+        (saved, None, copies), (saved, {}, copies), (saved, "b1", copies), (saved, [["b", 1, 1]], {}),
+        (saved, [("b", 1, 1), ("b", 2, 2)], {}), (saved, [("b", 0, 1)], {}), (saved, page, []),
+        (saved, page, None), (saved, page, {"c": []}), (saved, page, {1: []}), (saved, page, {"b": None}),
+        (saved, page, {"b": [("b", 2, 1)]}), (saved, page, {"b": {}}), (saved, page, {None: []}),
+        (Prickly(), page, copies), (saved, Prickly(), copies), (saved, page, Prickly()),
+        (saved, page, {"b": Prickly()}), ({"A": 1}, page, {}), (page, saved, copies),
+    ]
+
+
 def bad_values(kind):
     """New wrong arguments of a kind, beside the good values of the other arguments."""
     values = odd_values()
+    if kind == "total":
+        values = [value for value in values if type(value) is not int]
     if "observations" in kind:
         values = [value for value in values if not is_one_empty_content(value)]
     return values + {
@@ -447,4 +538,10 @@ def bad_values(kind):
             [], [("a", 1, 1)], [("a", 3, 4)], [("b", 1, 1), ("b", 3, 3)], [("c", 1, 1)]],
         "state": bad_states,
         "actions": lambda: bad_schedules() + [[("read", "b")], [("append", "b", 1)]],
+        "weights": bad_weights,
+        "uniform": bad_uniforms,
+        "total": lambda: ["0", [0], (0,), 0.0, 7.0, [], (), {}, {0: 0}, b"7", "7"],
+        "free line set": bad_free_line_sets,
+        "free schedule": bad_free_schedules,
+        "free state": bad_free_states,
     }[kind]()

@@ -5,7 +5,8 @@ import unittest
 
 from lastcopy import (
     atomic, certainty, check_final, check_observations, check_overwrites, check_survivors, contents,
-    counting, errors, final, observations, overwrites, save_orders, schedules, states, survivors,
+    commands, counting, errors, final, formats, observations, overwrites, page, save_orders,
+    schedules, states, survivors, weights,
 )
 
 SIGNATURES = {
@@ -102,6 +103,28 @@ SIGNATURES = {
         "actions_to_final(line_counts, state, content)",
         "reachable_final_contents(line_counts, state)",
     ],
+    weights: [
+        "total_weights(weights)", "min_weight(weights, *, size=None)",
+        "max_weight(weights, *, size=None)", "is_reachable_weight(uniform, total)",
+        "lines_with_weight(uniform, total)",
+    ],
+    page: ["replay(line_counts, schedule)"],
+    formats: [
+        "format_line_counts(line_counts)", "format_content(content)", "format_line_set(line_set)",
+        "format_schedule(schedule)", "format_state(state)", "parse_line_counts(text)",
+        "parse_content(text)", "parse_line_set(text)", "parse_schedule(text)", "parse_state(text)",
+    ],
+}
+CLASSES = {
+    page.Page: [
+        "__init__(self, line_counts)", "read_page(self, writer)", "save_line(self, writer)",
+        "append_lines(self, writer, count)", "leave(self, writer)", "undo(self)", "redo(self)",
+        "line_counts(self)", "content(self)", "held_copy(self, writer)", "remaining(self, writer)",
+        "overwrite_count(self)", "state(self)", "schedule(self)", "fork(self)",
+        "possible_bases(self)", "guaranteed_lines(self)", "permanently_lost(self)",
+        "can_become_final(self, content)", "__len__(self)", "__eq__(self, other)",
+    ],
+    commands.Interpreter: ["__init__(self)", "execute(self, command)"],
 }
 ERROR_NAMES = [
     "LastCopyError", "InvalidAction", "UnknownWriter", "TooManyResults", "InvalidFormat",
@@ -125,6 +148,15 @@ class InterfaceTest(unittest.TestCase):
             for signature in signatures:
                 function = getattr(module, signature.split("(")[0])
                 self.assertEqual(function.__module__, module.__name__)
+
+    def test_methods(self):
+        for owner, signatures in CLASSES.items():
+            for signature in signatures:
+                with self.subTest(signature):
+                    method = vars(owner)[signature.split("(")[0]]
+                    self.assertEqual(method.__name__ + str(inspect.signature(method)), signature)
+        self.assertEqual(page.Page.__module__, "lastcopy.page")
+        self.assertEqual(commands.Interpreter.__module__, "lastcopy.commands")
 
     def test_each_error_is_defined_in_its_file(self):
         for name in ERROR_NAMES:
