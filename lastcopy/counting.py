@@ -1,5 +1,6 @@
 """How many line sets survive and how many contents are final (points 39 to 44 of the document)."""
 
+from itertools import accumulate
 from math import comb
 
 from lastcopy.arguments import checked_integer, checked_line_counts, checked_table
@@ -34,42 +35,48 @@ def min_surviving_lines(line_counts):
     return min(numbers, default=0)
 
 
-def sets_with_two_ends(numbers, size):
-    """How many sets of so many lines have a first line and, at another place, a last line.
+def choices_from(things, start, end):
+    """The choices of start to end - 1 things, each from the one before it."""
+    found = [choices(things, start)]
+    for chosen in range(start, end - 1):
+        found.append(found[-1] * (things - chosen) // (chosen + 1))
+    return found
 
+
+def sets_by_ends(numbers, most):
+    """For each size up to the most, how many sets there are: in three lists.
+
+    All sets; those with a first line; those with a first line and, at another place, a last line.
     The numbers are those of the lines of the writers that have lines.
     """
     total = sum(numbers)
     inner = total - sum([min(number, 2) for number in numbers])
-    without_first = choices(total - len(numbers), size)
-    without_both = choices(inner, size)
-    # Here the only line of a writer is the only first line and the only last line.
-    same_line = numbers.count(1) * choices(inner, size - 1)
-    return choices(total, size) - 2 * without_first + without_both - same_line
-
-
-def rests_with_ends(numbers, size, missing):
-    """How many sets of so many lines of the others have the ends that a writer does not have."""
-    if missing == 2:
-        return sets_with_two_ends(numbers, size)
-    total = sum(numbers)
-    if missing == 1:
-        return choices(total, size) - choices(total - len(numbers), size)
-    return choices(total, size)
+    sets = choices_from(total, 0, most + 1)
+    without_first = choices_from(total - len(numbers), 0, most + 1)
+    without_both = choices_from(inner, 0, most + 1)
+    with_first = [one - two for one, two in zip(sets, without_first)]
+    two_ends = []
+    for size in range(most + 1):
+        # Here the only line of a writer is the only first line and the only last line.
+        same_line = numbers.count(1) * without_both[size - 1] if size > 0 else 0
+        two_ends.append(with_first[size] - without_first[size] + without_both[size] - same_line)
+    return (sets, with_first, two_ends)
 
 
 def sets_with_many_gaps(number, others, size):
     """How many sets with both ends have more gaps of one writer than lines of the others."""
+    sets, with_first, two_ends = sets_by_ends(others, size // 2)
     found = 0
-    for lines in range(1, size + 1):
+    # With fewer lines the writer has no gaps enough.
+    for lines in range((size + 1) // 2, size + 1):
         rest = size - lines
-        # The writer has its first and its last line, one of the two, or none.
-        for missing, ways in ((0, 1), (1, 2), (2, 1)):
-            own = 0
-            for gaps in range(rest + 1, lines + 2):
-                splits = choices(lines - 1, gaps - missing)
-                own += splits * choices(number - lines - 1, gaps - 1)
-            found += ways * own * rests_with_ends(others, rest, missing)
+        # For rest + 1 gaps and more, the places of the gaps and the ways to split the lines.
+        places = choices_from(number - lines - 1, rest, lines + 1)
+        splits = [0, 0] + choices_from(lines - 1, 0, lines) + [0, 0]
+        # The writer has its first and its last line, one of the two, or none; the others the rest.
+        for missing, ways in ((0, sets[rest]), (1, 2 * with_first[rest]), (2, two_ends[rest])):
+            start = rest + 3 - missing
+            found += ways * sum([one * two for one, two in zip(places, splits[start:])])
     return found
 
 
@@ -80,9 +87,11 @@ def count_survivor_sets(line_counts, size):
     if lines == 0:
         return 0 if numbers else 1
     # At most one writer of a set with both ends has too many gaps, so none is taken off twice.
-    found = sets_with_two_ends(numbers, lines)
-    for at, number in enumerate(numbers):
-        found -= sets_with_many_gaps(number, numbers[:at] + numbers[at + 1:], lines)
+    found = sets_by_ends(numbers, lines)[2][lines]
+    for number in sorted(set(numbers)):
+        at = numbers.index(number)
+        others = numbers[:at] + numbers[at + 1:]
+        found -= numbers.count(number) * sets_with_many_gaps(number, others, lines)
     return found + (numbers.count(1) if lines == 1 else 0)
 
 
@@ -114,13 +123,48 @@ def ways_of_runs(lines, runs, ends):
     return choices(lines + runs - ends, 2 * runs - ends)
 
 
+def with_turned_signs(numbers):
+    """The numbers at even places, and the negative ones of the others."""
+    return [number if at & 1 == 0 else -number for at, number in enumerate(numbers)]
+
+
+def joined_sums(ways):
+    """From a writer's ways by its number of runs, the sums of its ways by its number of blocks.
+
+    Runs are joined as in joined_runs, so with x for a run and y for a block, the sum of the ways
+    times x ** (runs - 1) is taken at x = y - 1. The sums come from dividing by 1 + x over and over.
+    """
+    left = with_turned_signs(ways[1:])[::-1]
+    found = []
+    while left:
+        left = list(accumulate(left))
+        found.append(left.pop())
+    return ways[:1] + with_turned_signs(found)
+
+
 def mixed(orders, blocks):
     """The orders, by their length, with further blocks put anywhere in between."""
-    found = [0] * (len(orders) + len(blocks))
-    for length, number in enumerate(orders):
-        for more, ways in enumerate(blocks):
-            found[length + more] += choices(length + more, more) * number * ways
+    found = [0] * (len(orders) + len(blocks) - 1)
+    # How many places so many blocks have in an order of each length.
+    places = [1] * len(orders)
+    for more, ways in enumerate(blocks):
+        for length, number in enumerate(orders):
+            found[length + more] += places[length] * number * ways
+        places = list(accumulate(places))
     return found
+
+
+def sum_of_mixed(orders, blocks):
+    """The sum of what mixed gives."""
+    if len(blocks) > len(orders):
+        return sum_of_mixed(blocks, orders)
+    # For each length the ways to put the blocks that are done into an order; one more block of
+    # the same writer has all places from each one on.
+    ways = [0] * len(orders)
+    for number in reversed(blocks):
+        ways[0] += number
+        ways = list(accumulate(ways))
+    return sum([one * two for one, two in zip(orders, ways)])
 
 
 def ends_of(writer, begin, end):
@@ -143,12 +187,30 @@ def orders_with_ends(tables, begin, end):
     A table has the ways of a writer by its number of blocks: for a writer that is at no end, at
     one end and at both ends.
     """
-    orders = [1]
+    lists = []
     for writer, table in tables.items():
         ends = ends_of(writer, begin, end)
         # The blocks at the ends have their places already.
-        orders = mixed(orders, table[ends][ends:])
-    return sum(orders) + (single_block(tables, begin) if begin == end else 0)
+        lists.append(table[ends][ends:])
+    lists = sorted(lists, key=len)
+    orders = [1]
+    for blocks in lists[:-1]:
+        orders = mixed(orders, blocks)
+    return sum_of_mixed(orders, lists[-1]) + (single_block(tables, begin) if begin == end else 0)
+
+
+def orders_by_ends(tables, numbers):
+    """The orders for each pair of writers at the ends. Equal numbers stand for equal tables."""
+    known = {}
+    found = {}
+    for begin in tables:
+        for end in tables:
+            low = min(numbers[begin], numbers[end])
+            key = (low, max(numbers[begin], numbers[end]), begin == end)
+            if key not in known:
+                known[key] = orders_with_ends(tables, begin, end)
+            found[(begin, end)] = known[key]
+    return found
 
 
 def count_contents_by_runs(line_counts, run_counts):
@@ -164,24 +226,13 @@ def count_contents_by_runs(line_counts, run_counts):
         return 0
     tables = {writer: [joined_runs(runs[writer])] * 3 for writer in present}
     found = 0
-    for begin in present:
-        for end in present:
-            ways = orders_with_ends(tables, begin, end)
-            for writer in present:
+    for (begin, end), ways in orders_by_ends(tables, runs).items():
+        for writer in present:
+            if ways != 0:
                 ends = ends_of(writer, begin, end)
                 ways *= ways_of_runs(counts[writer], runs[writer], ends)
-            found += ways
+        found += ways
     return found
-
-
-def summed_runs(lines, most, ends):
-    """The ways of a writer by its number of blocks, for all numbers of runs together."""
-    sums = [0] * (most + 1)
-    for runs in range(most + 1):
-        ways = ways_of_runs(lines, runs, ends)
-        for blocks, number in enumerate(joined_runs(runs)):
-            sums[blocks] += ways * number
-    return sums
 
 
 def count_final_contents(line_counts):
@@ -195,5 +246,6 @@ def count_final_contents(line_counts):
         if lines > 0:
             # Between two runs of a writer is a line of another one.
             most = min(lines, total - lines + 1)
-            tables[writer] = [summed_runs(lines, most, ends) for ends in range(3)]
-    return sum([orders_with_ends(tables, begin, end) for begin in tables for end in tables])
+            tables[writer] = [joined_sums([ways_of_runs(lines, runs, ends) for runs in range(most + 1)])
+                              for ends in range(3)]
+    return sum(orders_by_ends(tables, counts).values())
