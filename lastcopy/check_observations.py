@@ -4,7 +4,7 @@ from lastcopy.arguments import checked_line_counts, plain_integer, plain_line, p
 from lastcopy.contents import cut, place_of, with_run
 from lastcopy.errors import InvalidAction
 from lastcopy.observations import checked_observations, pairs_of
-from lastcopy.save_orders import plain_segment, totals_of
+from lastcopy.save_orders import plain_segments, totals_of
 from lastcopy.schedules import last_line, replay_schedule
 
 
@@ -72,16 +72,9 @@ def is_observation_obstruction(line_counts, observations, value, *, final=False)
 
 def plain_complete_order(counts, value):
     """A save order of exactly all lines, or None if the value is none."""
-    if type(value) != list:
-        return None
-    order = []
-    for item in value:
-        segment = plain_segment(item)
-        if segment is None or (order and order[-1][0] == segment[0]):
-            return None
-        order.append(segment)
+    order = plain_segments(value)
     wanted = {writer: counts[writer] for writer in counts if counts[writer] > 0}
-    return order if totals_of(order) == wanted else None
+    return order if order is not None and totals_of(order) == wanted else None
 
 
 def times_of_lines(order, lines):

@@ -8,13 +8,13 @@ from lastcopy.arguments import (
     checked_line_set,
     continues,
     plain_content,
-    plain_integer,
     plain_line_counts,
     plain_lines,
     plain_text,
     plain_writer,
 )
 from lastcopy.errors import InvalidAction, InvalidFormat, InvalidState
+from lastcopy.schedules import plain_action
 
 MOST_DIGITS = 31
 WORD_GAP = " "
@@ -48,22 +48,6 @@ def text_of_state(saved, page, copies):
     for holder in sorted(copies):
         parts.append(f"{holder}: {text_of_runs(copies[holder])}" if copies[holder] else f"{holder}:")
     return PART_GAP.join(parts)
-
-
-def plain_any_action(value):
-    """The action as a plain tuple, for any writer, or None if the value has another form."""
-    if type(value) != tuple or len(value) not in (2, 3):
-        return None
-    name = plain_text(value[0])
-    writer = plain_writer(value[1])
-    if writer is None:
-        return None
-    if len(value) == 2:
-        return (name, writer) if name in ("read", "save") else None
-    count = plain_integer(value[2])
-    if name != "append" or count is None or not 1 <= count <= LARGEST_NUMBER:
-        return None
-    return (name, writer, count)
 
 
 def plain_parts_of_state(value):
@@ -101,7 +85,7 @@ def format_schedule(schedule):
         raise InvalidAction(None)
     actions = []
     for index, item in enumerate(schedule):
-        action = plain_any_action(item)
+        action = plain_action(None, item)
         if action is None:
             raise InvalidAction(index)
         actions.append(action)
@@ -202,9 +186,9 @@ def action_in(text):
     """The action of a text, or None for another text."""
     words = text.split(WORD_GAP)
     if len(words) == 2:
-        return plain_any_action((words[0], words[1]))
+        return plain_action(None, (words[0], words[1]))
     if len(words) == 3:
-        return plain_any_action((words[0], words[1], digits_in(words[2])))
+        return plain_action(None, (words[0], words[1], digits_in(words[2])))
     return None
 
 

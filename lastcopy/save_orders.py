@@ -49,8 +49,9 @@ def plain_segment(value):
     return (writer, count)
 
 
-def plain_save_order(value):
-    if type(value) != list or not value:
+def plain_segments(value):
+    """A list of segments, perhaps an empty one, or None if the value is none."""
+    if type(value) != list:
         return None
     order = []
     for item in value:
@@ -69,8 +70,8 @@ def totals_of(order):
 
 
 def checked_save_order(value):
-    order = plain_save_order(value)
-    if order is None:
+    order = plain_segments(value)
+    if not order:
         raise InvalidSaveOrder("not a list of segments, each of another writer than the one before")
     totals = totals_of(order)
     if len(totals) > MOST_WRITERS or max(totals.values()) > LARGEST_NUMBER:

@@ -1,6 +1,7 @@
 """Schedules and save logs (points 13 to 18 of the document)."""
 
 from lastcopy.arguments import (
+    LARGEST_NUMBER,
     checked_line,
     checked_line_counts,
     continues,
@@ -92,17 +93,20 @@ class Replay:
 
 
 def plain_action(line_counts, value):
-    """The action as a plain tuple, or None if the value, which may be any value, is none."""
+    """The action as a plain tuple, or None if the value, which may be any value, is none.
+
+    Without line counts, actions of all writers are taken.
+    """
     if type(value) != tuple or len(value) not in (2, 3):
         return None
     name = plain_text(value[0])
     writer = plain_writer(value[1])
-    if writer not in line_counts:
+    if writer is None or (line_counts is not None and writer not in line_counts):
         return None
     if len(value) == 2:
         return (name, writer) if name in ("read", "save") else None
     count = plain_integer(value[2])
-    if name != "append" or count is None or count < 1:
+    if name != "append" or count is None or not 1 <= count <= LARGEST_NUMBER:
         return None
     return (name, writer, count)
 

@@ -97,8 +97,8 @@ def joined_sums(groups, others):
 def total_weights(weights):
     listed = checked_weights(weights, MOST_LINES_OF_ALL_SETS)
     groups = {(0, 0, NO_END): {0: 1}}
-    for writer in sorted(listed, key=lambda name: len(listed[name])):
-        groups = joined_sums(sums_of_writer(listed[writer]), groups)
+    for numbers in sorted(list(listed.values()), key=len):
+        groups = joined_sums(sums_of_writer(numbers), groups)
     has_lines = any(list(listed.values()))
     found = {}
     for (lines, need, ends), sums in groups.items():
