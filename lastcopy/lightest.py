@@ -131,7 +131,7 @@ def least_numbers(numbers, sizes):
         whole = rows[:size + 1]
         for choices in writers[free:]:
             whole = joined_rows(whole, choices.rows_in(size), size, huge)
-        found.append(whole[size][3] if size < len(whole) else huge)
+        found.append(whole[size][3])
     return found
 
 

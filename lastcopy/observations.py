@@ -14,7 +14,7 @@ from lastcopy.precedence import (
     bases_of,
     cycle_of,
     have_one_base_each,
-    log_of_order,
+    log_of_segments,
     pairs_of_bases,
     pairs_with_last,
     possible_order,
@@ -135,5 +135,5 @@ def schedule_with_observations(line_counts, observations, *, final=False):
     order = order_of_observations(counts, contents, final)
     if order is None:
         return None
-    log = log_of_order(counts, order, bases_of(contents))
+    log = log_of_segments(segments_of(counts, order), bases_of(contents))
     return schedule_of_log(log, {})

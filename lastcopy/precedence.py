@@ -161,31 +161,18 @@ def segments_of(counts, order):
     return segments
 
 
-def log_of_order(counts, order, bases):
-    """The save log of the order of all lines that segments_of gives, with these bases.
+def log_of_segments(segments, bases):
+    """The save log with the lines in the order of some segments, and with these bases.
 
-    A line that has no base among them has its writer's previous line as its base. All lines that
-    have one are in the order.
+    A line without a base among them has its writer's previous line as its base. The segments come
+    from an order that fits the bases, so inside a segment each line has the line before it.
     """
     log = []
-    done = {writer: 0 for writer in counts}
-    for writer, number in order + [(writer, counts[writer]) for writer in counts]:
-        first = done[writer] + 1
-        line = (writer, number)
-        if first < number and line in bases:
-            add_to_log(log, bases, writer, first, number - 1)
-            first = number
-        if first <= number:
-            add_to_log(log, bases, writer, first, number)
-            done[writer] = number
+    done = {}
+    for writer, count in segments:
+        before = done.get(writer, 0)
+        done[writer] = before + count
+        line = (writer, before + 1)
+        base = (writer, before) if before > 0 else None
+        log.append((writer, before + 1, before + count, bases[line] if line in bases else base))
     return log
-
-
-def add_to_log(log, bases, writer, first, last):
-    line = (writer, first)
-    before = (writer, first - 1) if first > 1 else None
-    base = bases[line] if line in bases else before
-    if log and base is not None and base == before and log[-1][0] == writer:
-        log[-1] = (writer, log[-1][1], last, log[-1][3])
-    else:
-        log.append((writer, first, last, base))

@@ -144,8 +144,6 @@ def actions_behind(state, holder, base, runs):
 
 def actions_in_state(state, runs):
     """Actions from the state to a content, or None if it is not reachable."""
-    if not state.writers_left():
-        return [] if runs == state.page else None
     for holder, base in bases_of_state(state):
         if obstruction_behind(state, holder, base, runs) is None:
             return actions_behind(state, holder, base, runs)
@@ -173,8 +171,7 @@ def contents_in_state(state):
     for holder, base in bases_of_state(state):
         before = numbers_without(state, holder)
         for writer, first in first_lines_behind(state, holder):
-            if base and base[-1][0] == writer and base[-1][2] != first - 1:
-                continue
+            # If the base ends with a line of this writer, it is the writer's latest one.
             for last in range(first, state.counts[writer] + 1):
                 run = (writer, first, last)
                 add_longer(state, latest_numbers(before, [run]), with_run(base, run), found)

@@ -11,10 +11,11 @@ from lastcopy.errors import InvalidState, TooManyResults
 from lastcopy.precedence import (
     bases_of,
     have_one_base_each,
-    log_of_order,
+    log_of_segments,
     pairs_of_bases,
     pairs_with_last,
     possible_order,
+    segments_of,
 )
 from lastcopy.reachable import (
     State,
@@ -107,7 +108,8 @@ def is_state(line_counts, value):
 def schedule_to_state(line_counts, state):
     wanted = checked_state(line_counts, state)
     bases = bases_of([wanted.page] + list(wanted.copies.values()))
-    log = log_of_order(wanted.saved, order_of_saves(wanted), bases)
+    segments = segments_of(wanted.saved, order_of_saves(wanted))
+    log = log_of_segments(segments, bases)
     held = {holder: last_line(wanted.copies[holder]) for holder in wanted.copies}
     return schedule_of_log(log, held)
 

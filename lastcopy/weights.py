@@ -207,18 +207,17 @@ def lines_with_weight(uniform, total):
     present = [writer for writer in listed if listed[writer][0] > 0]
     if not present:
         return {} if wanted == 0 else None
+    if len(present) == 2:
+        numbers = numbers_with_weight(listed[present[0]], listed[present[1]], wanted)
+        if numbers is not None:
+            # The first lines of one writer and the last lines of the other one have few gaps.
+            count = listed[present[1]][0]
+            return {present[0]: [(1, numbers[0])], present[1]: [(count - numbers[1] + 1, count)]}
     for writer in present:
         count, weight = listed[writer]
         if count * weight == wanted:
             return {writer: [(1, count)]}
-    if len(present) < 2:
-        return None
-    numbers = numbers_with_weight(listed[present[0]], listed[present[1]], wanted)
-    if numbers is None:
-        return None
-    # The first lines of one writer and the last lines of the other one have few gaps.
-    count = listed[present[1]][0]
-    return {present[0]: [(1, numbers[0])], present[1]: [(count - numbers[1] + 1, count)]}
+    return None
 
 
 def is_reachable_weight(uniform, total):

@@ -372,6 +372,7 @@ class UniformTest(unittest.TestCase):
         self.check({"a": (0, 3), "b": (2, 4)}, 4, False)
         self.check({"a": (0, 3), "b": (2, 4)}, 0, False)
         self.check({"a": (MOST, 0), "b": (MOST, 0)}, 0, True)
+        self.check({"a": (1, 0), "b": (1, 0)}, 0, True)
         self.check({"a": (MOST, 0), "b": (MOST, 0)}, 1, False)
         self.check({"a": (MOST, 0), "b": (9, -5)}, -45, True)
         self.check({"a": (MOST, 0), "b": (9, -5)}, -50, False)
