@@ -312,18 +312,16 @@ def early_readers(entries, times):
 
 
 def stops_of_entries(entries, readers):
-    """For each entry the times at which its saves must stop for reads, its end at last."""
+    """For each entry the times before its end at which others read, and its end."""
     reads = sorted(readers)
     at = 0
     end = 0
     found = []
     for writer, first, last, base in entries:
-        start = end
         end += last - first + 1
         stops = []
         while at < len(reads) and reads[at] < end:
-            if reads[at] > start:
-                stops.append(reads[at])
+            stops.append(reads[at])
             at += 1
         found.append(stops + [end])
     return found
